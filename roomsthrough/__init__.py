@@ -1,0 +1,1 @@
+"""Roomsthrough: puzzles of many rooms."""
