@@ -11,8 +11,8 @@ import roomsthrough
 FOLDER = os.path.dirname(roomsthrough.__file__)
 LIBRARY = {"heapq": {"heappush", "heappop", "heapify", "heapreplace", "heappushpop"}}
 BUILTINS = set(
-    "len range enumerate zip min max sum abs sorted reversed int str bool list tuple dict set isinstance ord repr any all"
-    " divmod super NotImplemented ValueError True False None".split()
+    "len range enumerate zip min max sum abs sorted reversed int str bool list tuple dict set isinstance ord repr any"
+    " all divmod super NotImplemented ValueError True False None".split()
 )
 METHODS = set(
     "append clear copy count endswith extend find get index insert items join keys lower pop replace setdefault split"

@@ -83,9 +83,10 @@ class TableTest(unittest.TestCase):
         self.assertEqual([(0, 0), (1, 0), (2, 0)], table(level, Rules(2)).outcomes((0, 0)))
 
     def test_a_child_that_nobody_can_come_back_from(self):
-        self.assertEqual([(0, 0)], table(Level(Room(["@1"]), [Level(Room(["@>.<"]))]), RULES).outcomes((0, 0)))
-        rules = Rules()
-        self.assertEqual([(0, 0)], table_of(Room(["@1*"]), rules, [none(rules)]).outcomes((0, 0))[:1])
+        self.assertTrue(table_of(Room(["@1"]), RULES, [none(RULES)]) == same(RULES))
+        self.assertEqual([(0, 0), "star"], table_of(Room(["@1*"]), RULES, [none(RULES)]).outcomes((0, 0)))
+        stars = Table(RULES, {bag: ["star"] for bag in RULES.bags()})
+        self.assertEqual([(0, 0), "star"], table_of(Room(["@1"]), RULES, [stars]).outcomes((0, 0)))
 
     def test_a_fuller_bag_can_be_worse(self):
         level = Level(Room(["@a*"]))

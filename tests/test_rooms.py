@@ -14,7 +14,8 @@ class MakingTest(unittest.TestCase):
             wanted_error(self, BadRoom, "value", at, Room, tuple(rows))
 
     def test_rooms_that_are_let(self):
-        for rows in (["@"], ["@1"], ["12@"], ["2@", "#1"], ["@*"], ["@#.^v<", ">xpgoo", "aABb1o", ".....2"], ["@"] + ["."] * 4):
+        full = ["@#.^v<", ">xpgoo", "aABb1o", ".....2"]
+        for rows in (["@"], ["@1"], ["12@"], ["2@", "#1"], ["@*"], full, ["@"] + ["."] * 4):
             self.assertEqual(tuple(rows), Room(rows).rows)
             self.assertEqual(tuple(rows), Room(tuple(rows)).rows)
 

@@ -88,19 +88,23 @@ class IsStateTest(unittest.TestCase):
             self.assertIs(cell in (1, 2, 9), is_state(ROOM, RULES, state), cell)
 
     def test_crates_on_what_has_become_floor(self):
-        self.right(ROOM, RULES, (2, (3, 9), (3,), (), (0, 0)), (2, (7, 9), (7,), (), (0, 0)), (2, (4,), (4,), (), (0, 0)))
-        self.wrong(ROOM, RULES, (2, (3, 9), (7,), (), (0, 0)), (2, (7, 9), (3,), (), (0, 0)), (2, (4,), (14,), (), (0, 0)))
+        for crates, cell, another in (((3, 9), 3, 7), ((7, 9), 7, 3), ((4,), 4, 14)):
+            self.right(ROOM, RULES, (2, crates, (cell,), (), (0, 0)))
+            self.wrong(ROOM, RULES, (2, crates, (another,), (), (0, 0)))
 
     def test_how_many_crates(self):
         self.wrong(ROOM, RULES, *self.with_part(1, (), (1,), (1, 9, 13)))
-        self.wrong(ROOM, RULES, (2, (1, 13), (4,), (), (0, 0)), (2, (), (4,), (), (0, 0)), (2, (1,), (4, 14), (), (0, 0)))
+        for crates, gone in (((1, 13), (4,)), ((), (4,)), ((1,), (4, 14))):
+            self.wrong(ROOM, RULES, (2, crates, gone, (), (0, 0)))
         self.right(ROOM, RULES, (2, (1,), (4,), (), (0, 0)), (2, (), (4, 14), (), (0, 0)))
         self.wrong(Room(["@xx"]), Rules(), (0, (), (1,), (), (0, 0)), (0, (), (1, 2), (), (0, 0)))
         self.wrong(Room(["@xxo"]), Rules(), (0, (), (1, 2), (), (0, 0)), (0, (3,), (1,), (), (0, 0)))
 
     def test_form_of_crates(self):
-        self.wrong(ROOM, RULES, *self.with_part(1, (13, 1), (1, 1), [1, 13], (True, 13), (1, 13, 13), (1, (13,)), {1: 1}))
-        self.wrong(Room(["@o"]), Rules(), (0, (True,), (), (), (0, 0)), (0, (-1,), (), (), (0, 0)), (0, (2,), (), (), (0, 0)))
+        things = [(13, 1), (1, 1), [1, 13], (True, 13), (1, 13, 13), (1, (13,)), {1: 1}]
+        self.wrong(ROOM, RULES, *self.with_part(1, *things))
+        for thing in ((True,), (-1,), (2,), [1]):
+            self.wrong(Room(["@o"]), Rules(), (0, thing, (), (), (0, 0)))
 
     def test_gone_is_keys_doors_and_pits(self):
         for cell in range(-1, 17):
@@ -114,14 +118,16 @@ class IsStateTest(unittest.TestCase):
 
     def test_used_is_mouths_of_the_room(self):
         self.right(ROOM, RULES, *self.with_part(3, (), (1,), (2,), (1, 2)))
-        self.wrong(ROOM, RULES, *self.with_part(3, (0,), (3,), (2, 1), (1, 1), [1], (True,), (True, 2), (1, 2, 3), "1", ("1",)))
+        things = [(0,), (3,), (2, 1), (1, 1), [1], (True,), (True, 2), (1, 2, 3), "1", ("1",)]
+        self.wrong(ROOM, RULES, *self.with_part(3, *things))
         self.right(Room(["@1"]), Rules(), (0, (), (), (1,), (0, 0)))
         self.wrong(Room(["@1"]), Rules(), (0, (), (), (2,), (0, 0)))
         self.wrong(Room(["@"]), Rules(), (0, (), (), (1,), (0, 0)))
 
     def test_the_bag_is_one_of_the_rules(self):
         self.right(ROOM, RULES, *self.with_part(4, (2, 2), (0, 0)))
-        self.wrong(ROOM, RULES, *self.with_part(4, None, (3, 0), (0, 3), (-1, 0), [0, 0], (True, 0), (0, False), (0,), (0, 0, 0)))
+        things = [None, (3, 0), (0, 3), (-1, 0), [0, 0], (True, 0), (0, False), (0,), (0, 0, 0)]
+        self.wrong(ROOM, RULES, *self.with_part(4, *things))
         self.wrong(ROOM, Rules(), GOOD)
         self.right(ROOM, Rules(), GOOD[:4] + ((1, 1),))
 

@@ -269,7 +269,8 @@ class PushingTest(unittest.TestCase):
         self.assertEqual((1, (2,), (3,), (), (0, 0)), after(["@oox"], "r", (0, 0), STRONG))
         self.assertEqual((2, (1,), (0,), (), (0, 0)), after(["xoo@"], "l", (0, 0), STRONG))
         self.assertEqual((2, (), (0, 1), (), (0, 0)), step(Room(["xxoo@"]), STRONG, (3, (2,), (0,), (), (0, 0)), "l"))
-        self.assertEqual((3, (2,), (0, 1), (), (0, 0)), step(Room(["xxooo@"]), STRONG, (4, (2, 3), (0,), (), (0, 0)), "l"))
+        room = Room(["xxooo@"])
+        self.assertEqual((3, (2,), (0, 1), (), (0, 0)), step(room, STRONG, (4, (2, 3), (0,), (), (0, 0)), "l"))
 
     def test_two_onto_what_a_crate_cannot_lie_on(self):
         for mark in "#1*g^v<>abAB":
@@ -309,7 +310,8 @@ class PullingTest(unittest.TestCase):
             self.assertIsNone(step(room, PULL, state, letter))
         for letter, crate, goal in (("U", 17, 7), ("L", 13, 11), ("R", 11, 13)):
             room = Room([".oo..", ".....", ".....", "@...."])
-            self.assertEqual((goal, (12, 18), (), (), (0, 0)), step(room, PULL, (12, (crate, 18), (), (), (0, 0)), letter))
+            state = (12, (crate, 18), (), (), (0, 0))
+            self.assertEqual((goal, (12, 18), (), (), (0, 0)), step(room, PULL, state, letter))
 
     def test_a_crate_has_to_lie_behind_the_walker(self):
         room = Room(["o.@..", "....."])
@@ -360,14 +362,16 @@ class PullingTest(unittest.TestCase):
             self.assertEqual((2, (1,), (1,), (), (0, 0)), step(room, PULL, (1, (0,), (1,), (), (0, 0)), "R"), mark)
         room = Room(["ox.o@"])
         self.assertEqual((2, (1,), (1,), (), (0, 0)), step(room, PULL, (1, (0,), (1,), (), (0, 0)), "R"))
-        self.assertEqual((2, (1, 3), (), (), (0, 0)), step(Room(["oo..", "@..."]), PULL, (1, (0, 3), (), (), (0, 0)), "R"))
+        room = Room(["oo..", "@..."])
+        self.assertEqual((2, (1, 3), (), (), (0, 0)), step(room, PULL, (1, (0, 3), (), (), (0, 0)), "R"))
 
     def test_a_pulled_crate_is_put_in_order(self):
         room = Room(["o.@", "o.."])
         self.assertEqual((2, (1, 3), (), (), (0, 0)), step(room, PULL, (1, (0, 3), (), (), (0, 0)), "R"))
         room = Room(["@.o", "o.."])
         self.assertEqual((0, (1, 3), (), (), (0, 0)), step(room, PULL, (1, (2, 3), (), (), (0, 0)), "L"))
-        self.assertEqual((1, (3, 4), (), (), (0, 0)), step(Room([".@.", "o..", ".o."]), PULL, (4, (3, 7), (), (), (0, 0)), "U"))
+        room = Room([".@.", "o..", ".o."])
+        self.assertEqual((1, (3, 4), (), (), (0, 0)), step(room, PULL, (4, (3, 7), (), (), (0, 0)), "U"))
 
     def test_only_one_crate_comes_along(self):
         room = Room(["oo.@"])

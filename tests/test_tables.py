@@ -113,7 +113,8 @@ class MakingTest(unittest.TestCase):
     def test_no_outcome_twice(self):
         for outcome in every_outcome(RULES):
             wanted_error(self, BadTable, "value", (1, 0), Table, RULES, with_row([outcome, outcome], (1, 0)))
-            wanted_error(self, BadTable, "value", (0, 0), Table, RULES, with_row((outcome, (0, 0), "star", outcome), (0, 0)))
+            row = (outcome, (0, 0), "star", outcome)
+            wanted_error(self, BadTable, "value", (0, 0), Table, RULES, with_row(row, (0, 0)))
 
     def test_outcomes_of_the_cap(self):
         rows = {bag: [(2, 2)] for bag in Rules(2).bags()}
