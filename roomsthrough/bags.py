@@ -22,6 +22,16 @@ def need_bag(rules, bag):
         raise BadBag(bag)
 
 
+def has_just_bags(rules, thing):
+    """Tell whether a thing is a dict with just the bags of the rules as keys."""
+    if not isinstance(thing, dict) or len(thing) != len(rules.bags()):
+        return False
+    for bag in thing:
+        if not is_bag(rules, bag):
+            return False
+    return True
+
+
 def is_outcome(rules, thing):
     """Tell whether a thing is an outcome: a bag of the rules or the star."""
     return is_bag(rules, thing) or isinstance(thing, str) and thing == STAR

@@ -1,6 +1,6 @@
 """Tables: with which outcomes a visit can end, for each bag with which it begins."""
 
-from roomsthrough.bags import STAR, is_bag, is_row_of_outcomes, listed, need_bag, need_outcome
+from roomsthrough.bags import STAR, has_just_bags, is_row_of_outcomes, listed, need_bag, need_outcome
 from roomsthrough.errors import BadTable
 from roomsthrough.plain import is_row
 from roomsthrough.rules import need_rules
@@ -11,11 +11,8 @@ class Table:
 
     def __init__(self, rules, rows):
         need_rules(rules)
-        if not isinstance(rows, dict) or len(rows) != len(rules.bags()):
+        if not has_just_bags(rules, rows):
             raise BadTable(-1)
-        for bag in rows:
-            if not is_bag(rules, bag):
-                raise BadTable(-1)
         for bag in rules.bags():
             if not _is_table_row(rules, rows[bag]):
                 raise BadTable(bag)

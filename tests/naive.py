@@ -150,7 +150,7 @@ def naive_costs(level, rules, bag, most=60000):
         letters += 1
         behind = []
         for position in now:
-            for after in naive_letters(level, boards, rules, position):
+            for _, after in naive_letters(level, boards, rules, position):
                 if isinstance(after, str) or after[0] == "out":
                     told.setdefault("star" if after == "star" else after[1], letters)
                 elif after not in seen:
@@ -163,7 +163,7 @@ def naive_costs(level, rules, bag, most=60000):
 
 
 def naive_letters(level, boards, rules, position):
-    """What each letter that is possible leads to: positions, ("out", bag) or "star"."""
+    """Each letter that is possible with what it leads to: a position, ("out", bag) or "star"."""
     path, frame = position[-1]
     board = boards[path]
     walker, crates, floor, used, bag = frame
@@ -171,20 +171,72 @@ def naive_letters(level, boards, rules, position):
     for letter in "udlrUDLR":
         after = naive_step(board, rules, frame, letter)
         if after is not None:
-            found.append("star" if board[after[0]] == "*" else position[:-1] + ((path, after),))
+            found.append((letter, "star" if board[after[0]] == "*" else position[:-1] + ((path, after),)))
     mark = board[walker]
     if mark in ("1", "2") and int(mark) not in used:
         number = int(mark)
         child = level.part(path + (number,))
         waiting = (path, (walker, crates, floor, used | {number}, None))
-        found.append(position[:-1] + (waiting, (path + (number,), start_frame(child, bag))))
+        found.append(("i", position[:-1] + (waiting, (path + (number,), start_frame(child, bag)))))
     if mark == "@":
         if len(position) == 1:
-            found.append(("out", bag))
+            found.append(("o", ("out", bag)))
         else:
             above, waiting = position[-2]
-            found.append(position[:-2] + ((above, waiting[:4] + (bag,)),))
+            found.append(("o", position[:-2] + ((above, waiting[:4] + (bag,)),)))
     return found
+
+
+def naive_positions(level, rules, bag, most=6000):
+    """All positions with the letters that are possible there, those with fewer letters first; None if too many."""
+    boards = {path: board_of(part.room) for path, part in parts(level)}
+    found = {(((), start_frame(level, bag)),): None}
+    todo = list(found)
+    for position in todo:
+        found[position] = naive_letters(level, boards, rules, position)
+        for _, after in found[position]:
+            if is_position(after) and after not in found:
+                found[after] = None
+                todo.append(after)
+        if len(found) > most:
+            return None
+    return found
+
+
+def is_position(after):
+    return after != "star" and after[0] != "out"
+
+
+def naive_options(positions):
+    """For each position the set of the outcomes that can still be had."""
+    ahead, told = {}, {position: set() for position in positions}
+    todo = []
+    for position, letters in positions.items():
+        for _, after in letters:
+            if is_position(after):
+                ahead.setdefault(after, []).append(position)
+            else:
+                todo.append((position, "star" if after == "star" else after[1]))
+    while todo:
+        position, outcome = todo.pop()
+        if outcome not in told[position]:
+            told[position].add(outcome)
+            todo.extend((earlier, outcome) for earlier in ahead.get(position, ()))
+    return told
+
+
+def position_of(level, position):
+    """A position as the package tells it."""
+    return tuple(state_of(level.part(path).room, frame) for path, frame in position)
+
+
+def naive_frail(rules, told):
+    """The least ones of some sets of outcomes, in the order of the document."""
+    order = [*rules.bags(), "star"]
+    sets = {frozenset(one) for one in told}
+    least = [one for one in sets if not any(other < one for other in sets)]
+    rows = sorted((len(one), sorted(order.index(outcome) for outcome in one)) for one in least)
+    return [tuple(order[at] for at in places) for _, places in rows]
 
 
 def parts(level, path=()):

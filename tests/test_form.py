@@ -15,8 +15,8 @@ BUILTINS = set(
     " all divmod super NotImplemented ValueError True False None".split()
 )
 METHODS = set(
-    "append clear copy count endswith extend find get index insert items join keys lower pop replace setdefault split"
-    " startswith strip upper values translate".split()
+    "append bit_length clear copy count endswith extend find get index insert items join keys lower pop replace"
+    " setdefault split startswith strip upper values translate".split()
 )
 DOUBLE = {"__init__", "__eq__", "__or__"}
 WORDS = ["type", "typing", "enum", "register", "mro", "elements", "open", "input", "law", "eval", "exec", "globals"]
@@ -31,6 +31,10 @@ INTERFACE = {
         "Table.outcomes", "Table.lets", "Table.within", "Table.__or__", "Table.__eq__", "then", "same", "none",
     ],
     "middle": ["table", "table_of", "met", "is_closed"],
+    "plays": ["walk", "is_play", "least", "way", "outcomes"],
+    "papers": ["least_paper", "is_least_paper", "told_costs"],
+    "frailty": ["options", "frail", "is_safe", "spoiler", "is_spoiler"],
+    "fulls": ["Full.weak", "Full.__eq__", "full", "full_of", "fragile", "twins"],
 }
 
 

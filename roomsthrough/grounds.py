@@ -1,0 +1,122 @@
+"""What steps alone do in a room: its states in groups of which each state leads to each other one by steps."""
+
+from roomsthrough.bags import STAR
+from roomsthrough.errors import TooMany
+from roomsthrough.masks import bits_of
+from roomsthrough.moving import MOST_STATES, mouth_here, moves
+
+
+class Ground:
+    """The groups of a room, numbered as they are found: steps lead to groups with lower numbers alone."""
+
+    def __init__(self, room, rules):
+        self.room = room
+        self.rules = rules
+        self.bits = bits_of(rules)
+        self.members = []
+        self.followers = []
+        self.ends = []
+        self.doors = []
+        self.places = {bag: at for at, bag in enumerate(rules.bags())}
+        self._groups = {}
+
+    def group(self, state):
+        """The number of the group of a state."""
+        if state not in self._groups:
+            self._explore(state)
+        return self._groups[state]
+
+    def _explore(self, first):
+        """Add the groups of all states that steps lead to from a new one."""
+        behind = self._new_steps(first)
+        for members in _groups_in(behind, first):
+            self._add(members, behind)
+
+    def _new_steps(self, first):
+        """The dict from all new states that steps lead to, to the lists of the states behind one step."""
+        behind = {}
+        todo = [first]
+        while todo:
+            state = todo.pop()
+            if state in behind:
+                continue
+            behind[state] = [after for _, after in moves(self.room, self.rules, state)]
+            if len(behind) > MOST_STATES:
+                raise TooMany()
+            todo.extend([after for after in behind[state] if after not in self._groups])
+        return behind
+
+    def _add(self, members, behind):
+        """Add a group, all whose followers are known."""
+        number = len(self.members)
+        for state in members:
+            self._groups[state] = number
+        followers = {}
+        mask = 0
+        doors = []
+        for state in members:
+            for after in behind[state]:
+                followers[self._groups[after]] = True
+            mask |= self._end(state)
+            mouth = mouth_here(self.room, state)
+            if mouth > 0:
+                doors.append((state, mouth))
+        self.members.append(members)
+        self.followers.append([other for other in followers if other != number])
+        self.ends.append(mask)
+        self.doors.append(doors)
+
+    def _end(self, state):
+        """The bit of the outcome that a state leads to at once, 0 for none."""
+        mark = self.room.cells[state[0]]
+        if mark == "@":
+            return self.bits[state[4]]
+        return self.bits[STAR] if mark == "*" else 0
+
+
+def _groups_in(behind, first):
+    """The list of the groups of the states, each one behind its followers."""
+    ahead = {state: [] for state in behind}
+    for state in behind:
+        for after in behind[state]:
+            if after in ahead:
+                ahead[after].append(state)
+    found = []
+    placed = {}
+    # Whoever goes against the steps, from the states that are left last on, meets one group after the other.
+    for state in _left(behind, first)[::-1]:
+        if state not in placed:
+            found.append(_gathered(ahead, state, placed))
+    return found[::-1]
+
+
+def _left(behind, first):
+    """The list of the states in the order in which a search in depth leaves them."""
+    order = []
+    seen = {first: True}
+    path = [(first, 0)]
+    while path:
+        state, done = path.pop()
+        if done == len(behind[state]):
+            order.append(state)
+            continue
+        path.append((state, done + 1))
+        after = behind[state][done]
+        if after in behind and after not in seen:
+            seen[after] = True
+            path.append((after, 0))
+    return order
+
+
+def _gathered(ahead, first, placed):
+    """The list of the states that are not placed and lead to a state; they are placed then."""
+    found = [first]
+    placed[first] = True
+    at = 0
+    while at < len(found):
+        for earlier in ahead[found[at]]:
+            if earlier not in placed:
+                placed[earlier] = True
+                found.append(earlier)
+        at += 1
+    return found
