@@ -1,13 +1,20 @@
 """What steps alone do in a room: its states in groups of which each state leads to each other one by steps."""
 
+from math import comb
+
 from roomsthrough.bags import STAR
 from roomsthrough.errors import TooMany
-from roomsthrough.masks import bits_of
-from roomsthrough.moving import MOST_STATES, mouth_here, moves
+from roomsthrough.masks import bits_of, outcomes_in
+from roomsthrough.moving import MOST_STATES, come_back, mouth_here, moves
 
 
 class Ground:
-    """The groups of a room, numbered as they are found: steps lead to groups with lower numbers alone."""
+    """The groups of a room, numbered as they are found: steps lead to groups with lower numbers alone.
+
+    For each number: members are the states of the group, followers the groups that a step leads to, ends the mask
+    of the outcomes that its states lead to at once, doors the tuples (state, mouth) of the mouths to go in at, and
+    views what tours have found out.
+    """
 
     def __init__(self, room, rules):
         self.room = room
@@ -17,14 +24,39 @@ class Ground:
         self.followers = []
         self.ends = []
         self.doors = []
+        self.views = []
         self.places = {bag: at for at, bag in enumerate(rules.bags())}
+        self.is_small = _states_at_most(room, rules) <= MOST_STATES
         self._groups = {}
+        self._closures = {}
+        self._backs = {}
 
     def group(self, state):
         """The number of the group of a state."""
         if state not in self._groups:
             self._explore(state)
         return self._groups[state]
+
+    def closure(self, number):
+        """The ascending list of all groups that steps lead to from a group, itself among them."""
+        if number not in self._closures:
+            seen = {number: True}
+            todo = [number]
+            while todo:
+                for after in self.followers[todo.pop()]:
+                    if after not in seen:
+                        seen[after] = True
+                        todo.append(after)
+            self._closures[number] = sorted(list(seen))
+        return self._closures[number]
+
+    def backs(self, state, mouth, mask):
+        """The tuples (bit, group) of coming back out of a mouth, gone into in a state, with the bags of a mask."""
+        key = (state, mask)
+        if key not in self._backs:
+            bags = [outcome for outcome in outcomes_in(self.bits, mask) if outcome != STAR]
+            self._backs[key] = [(self.bits[bag], self.group(come_back(state, mouth, bag))) for bag in bags]
+        return self._backs[key]
 
     def _explore(self, first):
         """Add the groups of all states that steps lead to from a new one."""
@@ -65,6 +97,7 @@ class Ground:
         self.followers.append([other for other in followers if other != number])
         self.ends.append(mask)
         self.doors.append(doors)
+        self.views.append({})
 
     def _end(self, state):
         """The bit of the outcome that a state leads to at once, 0 for none."""
@@ -72,6 +105,16 @@ class Ground:
         if mark == "@":
             return self.bits[state[4]]
         return self.bits[STAR] if mark == "*" else 0
+
+
+def _states_at_most(room, rules):
+    """A number of states that is not exceeded, whichever ones can be met."""
+    free = len(room.cells) - room.cells.count("#")
+    crates = sum([comb(free, many) for many in range(len(room.crates) + 1)])
+    changes = 0
+    for mark in "abABx12":
+        changes += room.cells.count(mark)
+    return free * crates * len(rules.bags()) << changes
 
 
 def _groups_in(behind, first):

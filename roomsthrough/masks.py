@@ -24,10 +24,11 @@ def outcomes_in(bits, mask):
 def least_masks(masks):
     """The list of those masks of which no other one is a part, the smaller ones first."""
     least = []
-    for mask in sorted(masks, key=_by_size):
+    # A part of a mask is always a lower number.
+    for mask in sorted(masks):
         if not _has_part(mask, least):
             least.append(mask)
-    return least
+    return sorted(least, key=_by_size)
 
 
 def _by_size(mask):

@@ -11,6 +11,16 @@ def is_row(thing):
     return isinstance(thing, (list, tuple))
 
 
+def is_name(thing):
+    """Tell whether a thing is a string of 1 to 8 letters from a to z."""
+    if not isinstance(thing, str) or not 1 <= len(thing) <= 8:
+        return False
+    for mark in thing:
+        if not "a" <= mark <= "z":
+            return False
+    return True
+
+
 def is_ascending(thing, least, most):
     """Tell whether a thing is an ascending tuple of integers from least to most, none twice."""
     if not isinstance(thing, tuple):

@@ -7,18 +7,23 @@ of the mask of the outcomes and the tuple of the least masks of options.
 from roomsthrough.bags import STAR
 from roomsthrough.errors import TooMany
 from roomsthrough.grounds import Ground
-from roomsthrough.masks import least_masks, outcomes_in
-from roomsthrough.moving import MOST_STATES, come_back, first_state
+from roomsthrough.masks import least_masks
+from roomsthrough.moving import MOST_STATES, first_state
 
 
 class Tour:
-    """A ground and the shapes of the children behind its mouths."""
+    """A ground and the shapes of the children behind its mouths.
+
+    The VIEW of a group is a tuple: the mask of its worth, the tuple of the least masks of options from there on, and
+    the tuple of the rows of the shapes that were asked for, in this order, each as (child, place of the bag). Where
+    just these rows are the same, the view is the same, too, with whichever shapes.
+    """
 
     def __init__(self, ground, shapes):
         self.ground = ground
         self.shapes = shapes
         self._worth = {}
-        self._backs = {}
+        self._views = {}
 
     def met(self, state):
         """The list of the groups of all states that can be met from a state on."""
@@ -41,82 +46,145 @@ class Tour:
         """The mask of the options of being in a state."""
         number = self.ground.group(state)
         if number not in self._worth:
-            self._weigh(self.met(state))
+            self._look(number)
         return self._worth[number]
 
     def worth_behind(self, state, mouth, mask):
         """The mask of what is possible with the outcomes of a mask behind a mouth, gone into from a state."""
         found = mask & self.ground.bits[STAR]
-        for back in self._states_back(state, mouth, mask):
-            found |= self.worth(back)
+        for _, back in self.ground.backs(state, mouth, mask):
+            found |= self._view(back)[0]
         return found
 
     def row(self, state, mouth):
         """The row of the shape of the child behind a mouth for the bag that is carried in a state."""
         return self.shapes[mouth - 1][self.ground.places[state[4]]]
 
+    def row_from(self, first):
+        """The row of the shape of the whole, for whoever begins in a state."""
+        number = self.ground.group(first)
+        # Whatever is known was counted when it was found.
+        if not self.ground.is_small and self._known_view(number) is None:
+            self.met(first)
+        return self._view(number)[:2]
+
     def _leads(self, number):
         """The list of the groups that a step or a child's bag leads to from a group."""
         found = list(self.ground.followers[number])
         for state, mouth in self.ground.doors[number]:
-            for back in self._states_back(state, mouth, self.row(state, mouth)[0]):
-                found.append(self.ground.group(back))
+            found.extend([back for _, back in self.ground.backs(state, mouth, self.row(state, mouth)[0])])
         return found
 
-    def _weigh(self, numbers):
-        """Find out what the groups are worth, those first that are behind others: more mouths used, lower numbers."""
-        members = self.ground.members
-        for number in sorted(numbers, key=lambda k: (-len(members[k][0][3]), k)):
-            mask = self.ground.ends[number]
-            for after in self.ground.followers[number]:
-                mask |= self._worth[after]
-            for state, mouth in self.ground.doors[number]:
-                mask |= self.worth_behind(state, mouth, self.row(state, mouth)[0])
-            self._worth[number] = mask
+    def _view(self, number):
+        """The view of a group."""
+        if number not in self._views:
+            known = self._known_view(number)
+            self._views[number] = self._look(number) if known is None else known
+        return self._views[number]
 
-    def _states_back(self, state, mouth, mask):
-        """The list of the states of coming back with the bags of a mask."""
-        key = (state, mask)
-        if key not in self._backs:
-            bags = [outcome for outcome in outcomes_in(self.ground.bits, mask) if outcome != STAR]
-            self._backs[key] = [come_back(state, mouth, bag) for bag in bags]
-        return self._backs[key]
+    def _known_view(self, number):
+        """The view of a group that was found with the same rows, None if there is none."""
+        node = self.ground.views[number]
+        while node is not None and "ask" in node:
+            child, at = node["ask"]
+            node = node.get(self.shapes[child][at])
+        return None if node is None else node.get("view")
+
+    def _keep(self, number, view):
+        """Keep the view of a group, to be found by the rows that are asked for, one after the other.
+
+        This is a tree, as what is asked for next hangs on the rows that were told before alone.
+        """
+        node = self.ground.views[number]
+        for child, at in view[2]:
+            node["ask"] = (child, at)
+            node = node.setdefault(self.shapes[child][at], {})
+        node["view"] = view
+
+    def _look(self, number):
+        """Find the view of a group, and what all groups are worth that steps lead to from there."""
+        ground = self.ground
+        asked, options = {}, {}
+        for group in ground.closure(number):
+            mask = ground.ends[group]
+            for after in ground.followers[group]:
+                mask |= self._worth[after]
+            for state, mouth in ground.doors[group]:
+                mask |= self._visit(state, mouth, asked, options)
+            self._worth[group] = mask
+            # A play on the star has ended: what can be had there is no option.
+            if ground.room.cells[ground.members[group][0][0]] != "*":
+                options[mask] = True
+        view = (self._worth[number], tuple(least_masks(list(options))), tuple(asked))
+        self._keep(number, view)
+        return view
+
+    def _visit(self, state, mouth, asked, options):
+        """The mask of what is possible by going in at a mouth; adds what is asked for and the options behind it."""
+        asked[(mouth - 1, self.ground.places[state[4]])] = True
+        row, weak = self.row(state, mouth)
+        every = row
+        for mask in weak:
+            every |= mask
+        worths = []
+        for bit, back in self.ground.backs(state, mouth, every):
+            worth, inner, more = self._view(back)
+            worths.append((bit, worth))
+            for place in more:
+                asked[place] = True
+            if row & bit:
+                for mask in inner:
+                    options[mask] = True
+        star = self.ground.bits[STAR]
+        for mask in weak:
+            options[_worth_of(worths, mask, star)] = True
+        return _worth_of(worths, row, star)
+
+
+def _worth_of(worths, mask, star):
+    """The mask of what is possible with the outcomes of a mask, where the tuples (bit, worth) tell it for each bag."""
+    found = mask & star
+    for bit, worth in worths:
+        if mask & bit:
+            found |= worth
+    return found
+
+
+class Shaper:
+    """Finds the shapes of levels under some rules, with one ground for each room."""
+
+    def __init__(self, rules):
+        self.rules = rules
+        self._grounds = {}
+        self._known = {}
+
+    def ground(self, room):
+        """The ground of a room."""
+        if room.rows not in self._grounds:
+            self._grounds[room.rows] = Ground(room, self.rules)
+        return self._grounds[room.rows]
+
+    def shape(self, room, shapes):
+        """The shape of a level with this first room whose children have a tuple of shapes."""
+        key = (room.rows, shapes)
+        if key not in self._known:
+            self._known[key] = shape_of(self.ground(room), shapes)
+        return self._known[key]
 
 
 def shape_of(ground, shapes):
     """The shape of a level with this ground's room first whose children have these shapes."""
-    return tuple([_row_for(ground, shapes, bag) for bag in ground.places])
+    tour = Tour(ground, shapes)
+    return tuple([tour.row_from(first_state(ground.room, bag)) for bag in ground.places])
 
 
 def shapes_of_parts(parts, rules):
     """The list of the shapes of the parts of a level, each of which stands behind its children, and of their tours."""
-    grounds = {}
-    known = {}
+    shaper = Shaper(rules)
     found = []
     tours = []
     for room, inside in parts:
-        if room.rows not in grounds:
-            grounds[room.rows] = Ground(room, rules)
         shapes = tuple([found[child] for child in inside])
-        key = (room.rows, shapes)
-        if key not in known:
-            known[key] = shape_of(grounds[room.rows], shapes)
-        found.append(known[key])
-        tours.append(Tour(grounds[room.rows], shapes))
+        found.append(shaper.shape(room, shapes))
+        tours.append(Tour(shaper.ground(room), shapes))
     return (found, tours)
-
-
-def _row_for(ground, shapes, bag):
-    """The row of the shape for whoever comes with a bag."""
-    tour = Tour(ground, shapes)
-    first = first_state(ground.room, bag)
-    options = {}
-    for number in tour.met(first):
-        state = ground.members[number][0]
-        # A play on the star has ended: what can be had there is no option.
-        if ground.room.cells[state[0]] != "*":
-            options[tour.worth(state)] = True
-        for state, mouth in ground.doors[number]:
-            for mask in tour.row(state, mouth)[1]:
-                options[tour.worth_behind(state, mouth, mask)] = True
-    return (tour.worth(first), tuple(least_masks(list(options))))

@@ -2,6 +2,7 @@
 
 from roomsthrough.errors import BadBag, MazeError, TooMany
 from roomsthrough.fulls import Full, full
+from roomsthrough.grammars import Grammar
 from roomsthrough.levels import Level
 from roomsthrough.rooms import Room
 from roomsthrough.rules import Rules
@@ -25,6 +26,8 @@ def anything():
         {(0, 0): []}, {(0, 0): [], (0, 1): [], (1, 0): [], (1, 1): []}, [[]] * 2, [None] * 100000,
         (0, (), (), (), (0, 0)), [(0, (), (), (), (0, 0))], nested(list, 20), nested(tuple, 20), nested(dict, 20),
         len, anything, lambda thing: thing, Rules, Rules(), Rules(2, True, True), Room, Room(["@"]), Room(["@1"]),
+        Grammar, Grammar([("s", Room(["@"]), ())], "s"), ("s", Room(["@"]), ()), [("s", Room(["@1"]), ("s",))], (0, ()),
+        ("solved", (0, 0)), ("not", ("idle", (0, 0))), ["solved", (0, 0)], "solved", (0, ((1, ()),)), {"s": []},
         Full, full(Level(Room(["@"])), Rules()), [full(Level(Room(["@"])), Rules(2))], {(0, 0): [()]},
         Level, Level(Room(["@"])), Level(Room(["@1"]), [Level(Room(["@*"]))]), Table, none(Rules()), same(Rules(2)),
         [none(Rules())], [Level(Room(["@"]))], [Room(["@"])], MazeError, BadBag(0), TooMany(),

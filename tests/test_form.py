@@ -9,7 +9,9 @@ import warnings
 import roomsthrough
 
 FOLDER = os.path.dirname(roomsthrough.__file__)
-LIBRARY = {"heapq": {"heappush", "heappop", "heapify", "heapreplace", "heappushpop"}}
+LIBRARY = {
+    "heapq": {"heappush", "heappop", "heapify", "heapreplace", "heappushpop"}, "math": {"comb"}, "itertools": {"product"},
+}
 BUILTINS = set(
     "len range enumerate zip min max sum abs sorted reversed int str bool list tuple dict set isinstance ord repr any"
     " all divmod super NotImplemented ValueError True False None".split()
@@ -34,6 +36,12 @@ INTERFACE = {
     "plays": ["walk", "is_play", "least", "way", "outcomes"],
     "papers": ["least_paper", "is_least_paper", "told_costs"],
     "frailty": ["options", "frail", "is_safe", "spoiler", "is_spoiler"],
+    "grammars": [
+        "Grammar.names", "Grammar.__eq__", "joined", "level_of", "is_made", "derivations",
+    ],
+    "reaching": ["reached", "least_of"],
+    "wishes": ["is_wish", "meets"],
+    "verdicts": ["every", "some", "verdict_paper", "is_verdict_paper"],
     "fulls": ["Full.weak", "Full.__eq__", "full", "full_of", "fragile", "twins"],
 }
 
@@ -94,11 +102,34 @@ class FormTest(unittest.TestCase):
 
     def test_statements_and_values(self):
         banned = (
-            ast.Global, ast.AsyncFunctionDef, ast.Import, ast.Try, ast.GeneratorExp, ast.Div,
-            ast.AnnAssign, ast.Yield, ast.Await, ast.With, ast.Match, ast.Assert, ast.JoinedStr,
+            ast.Global, ast.AsyncFunctionDef, ast.Import, ast.GeneratorExp, ast.Div,
+            ast.AnnAssign, ast.YieldFrom, ast.Await, ast.With, ast.Match, ast.Assert, ast.JoinedStr,
         )
         for place, _ in nodes(banned):
             self.fail(place)
+
+    def test_only_own_errors_are_caught(self):
+        for place, node in nodes(ast.Try):
+            self.assertEqual(([], []), (node.finalbody, node.orelse), place)
+            for handler in node.handlers:
+                self.assertEqual("TooMany", handler.type.id, place)
+
+    def test_generators_are_iterated_at_once(self):
+        own = set()
+        for place, node in nodes(ast.FunctionDef):
+            if any(isinstance(part, ast.Yield) for part in ast.walk(node)):
+                own.add(node.name)
+        self.assertEqual(1 + 2, len(own))
+        self.assertEqual(3, len([node for _, node in nodes(ast.FunctionDef) if node.name in own]))
+        loops = [node.iter for _, node in nodes(ast.For)]
+        for place, node in nodes(ast.Call):
+            if isinstance(node.func, ast.Name) and node.func.id in own:
+                self.assertIn(node, loops, place)
+                for part in node.args:
+                    self.assertIsInstance(part, (ast.Name, ast.Attribute, ast.Constant), place)
+        statements = [node.value for _, node in nodes(ast.Expr)]
+        for place, node in nodes(ast.Yield):
+            self.assertIn(node, statements, place)
 
     def test_constants(self):
         for place, node in nodes(ast.Constant):

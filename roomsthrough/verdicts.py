@@ -1,0 +1,103 @@
+"""Verdicts: whether each level that a grammar makes fulfils a wish, or some do, and papers that show it."""
+
+from itertools import product
+
+from roomsthrough.errors import NoPaper, TooMany
+from roomsthrough.fulls import Full, full_with
+from roomsthrough.grammars import need_grammar
+from roomsthrough.reach import Reach
+from roomsthrough.reaching import reached
+from roomsthrough.rules import need_rules
+from roomsthrough.tours import Shaper
+from roomsthrough.wishes import meets, need_wish
+
+
+def every(grammar, rules, wish):
+    """None if each made level of the start fulfils the wish, otherwise the least derivation that does not."""
+    _need_question(grammar, rules, wish)
+    return _least_one(grammar, rules, wish, False)
+
+
+def some(grammar, rules, wish):
+    """None if no made level of the start fulfils the wish, otherwise the least derivation that does."""
+    _need_question(grammar, rules, wish)
+    return _least_one(grammar, rules, wish, True)
+
+
+def verdict_paper(grammar, rules, wish):
+    """The dict of the reached fulls, which shows that each made level of the start fulfils the wish."""
+    _need_question(grammar, rules, wish)
+    paper = reached(grammar, rules)
+    for full in paper[grammar.start]:
+        if not meets(full, wish):
+            raise NoPaper()
+    return paper
+
+
+def is_verdict_paper(grammar, rules, wish, thing):
+    """Tell whether a thing is a dict of fulls which shows that each made level of the start fulfils the wish."""
+    _need_question(grammar, rules, wish)
+    if not _is_dict_of_fulls(grammar, rules, thing):
+        return False
+    for full in thing[grammar.start]:
+        if not meets(full, wish):
+            return False
+    shapes = {name: _each_once([full.shape for full in thing[name]]) for name in grammar.names()}
+    try:
+        return _is_closed(grammar, rules, shapes)
+    except TooMany:
+        return False
+
+
+def _need_question(grammar, rules, wish):
+    """Raise the error of the first of these arguments that is wrong."""
+    need_grammar(grammar)
+    need_rules(rules)
+    need_wish(rules, wish)
+
+
+def _least_one(grammar, rules, wish, wanted):
+    """The least derivation of the start whose level fulfils the wish, or does not, as wanted; None if there is none."""
+    reach = Reach(grammar, rules)
+    for number in reach.numbers[grammar.start]:
+        if meets(full_with(rules, reach.shapes[number]), wish) == wanted:
+            return reach.derivations[number]
+    return None
+
+
+def _is_dict_of_fulls(grammar, rules, thing):
+    """Tell whether a thing is a dict from just the names of the grammar to lists of fulls with these rules."""
+    names = grammar.names()
+    if not isinstance(thing, dict) or len(thing) != len(names):
+        return False
+    for name in names:
+        if not isinstance(thing.get(name), list):
+            return False
+        for full in thing[name]:
+            if not isinstance(full, Full) or full.base.rules != rules:
+                return False
+    return True
+
+
+def _each_once(shapes):
+    """The dict of the shapes of a row, each of them once."""
+    return {shape: True for shape in shapes}
+
+
+def _is_closed(grammar, rules, shapes):
+    """Tell whether each production leads from shapes of its names to a shape of its name."""
+    shaper = Shaper(rules)
+    for name, room, names in grammar.rows:
+        for row in _rows_of(shapes, names):
+            if shaper.shape(room, row) not in shapes[name]:
+                return False
+    return True
+
+
+def _rows_of(shapes, names):
+    """The list of the tuples with a shape for each of the names."""
+    if len(names) == 0:
+        return [()]
+    if len(names) == 1:
+        return [(shape,) for shape in shapes[names[0]]]
+    return list(product(shapes[names[0]], shapes[names[1]]))
