@@ -86,10 +86,10 @@ def derivations(grammar, name, most):
     need_name(grammar, name)
     if not is_whole(most) or not 0 <= most <= MOST_DERIVED:
         raise BadCount(most)
-    sizes = _sizes(grammar, most)
-    for rooms in sizes[name]:
+    totals = _totals(grammar, most)
+    for rooms in list(totals[(name,)]):
         wanted = [rooms]
-        for _, made in _derived(grammar, sizes, name, wanted):
+        for _, made in _derived(grammar, totals, name, wanted):
             yield made
 
 
@@ -134,58 +134,63 @@ def _built(grammar, derivation):
     return Level(grammar.rows[index][1], [_built(grammar, child) for child in inside])
 
 
-def _sizes(grammar, most):
-    """For each name the ascending list of the numbers of rooms, up to most, that its made levels can have."""
-    sizes = {name: [] for name in grammar.names()}
+def _totals(grammar, most):
+    """For tuples of names the numbers of rooms, up to most, that made levels of these can have together.
+
+    These are the tuples of the productions and their ends; each number is a key, so that it is found at once.
+    """
+    totals = {(name,): {} for name in grammar.names()}
+    totals[()] = {0: True}
     for rooms in range(1, most + 1):
-        found = {}
-        for name, _, names in grammar.rows:
-            if _can_make(sizes, names, rooms - 1):
-                found[name] = True
+        found = [name for name, _, names in grammar.rows if _is_total(totals, names, rooms - 1)]
         for name in found:
-            sizes[name].append(rooms)
-    return sizes
+            totals[(name,)][rooms] = True
+    for _, _, names in grammar.rows:
+        totals[names] = {total: True for total in range(most + 1) if _is_total(totals, names, total)}
+    return totals
 
 
-def _can_make(sizes, names, rooms):
+def _is_total(totals, names, total):
     """Tell whether made levels of the names can have so many rooms together."""
     if len(names) == 0:
-        return rooms == 0
-    for many in sizes[names[0]]:
-        if _can_make(sizes, names[1:], rooms - many):
+        return total == 0
+    for many in totals[(names[0],)]:
+        if _is_total(totals, names[1:], total - many):
             return True
     return False
 
 
-def _derived(grammar, sizes, name, wanted):
+def _derived(grammar, totals, name, wanted):
     """The tuples (rooms, derivation) of a name with one of the wanted numbers of rooms, ascending by derivations."""
     for index, production in enumerate(grammar.rows):
-        names = production[2]
-        left = [rooms - 1 for rooms in wanted if _can_make(sizes, names, rooms - 1)]
-        if production[0] == name and len(left) > 0:
-            for rooms, inside in _derived_in_row(grammar, sizes, names, left):
+        if production[0] == name:
+            names = production[2]
+            left = [rooms - 1 for rooms in wanted if rooms - 1 in totals[names]]
+            for rooms, inside in _derived_in_row(grammar, totals, names, left):
                 yield (rooms + 1, (index, inside))
 
 
-def _derived_in_row(grammar, sizes, names, wanted):
+def _derived_in_row(grammar, totals, names, wanted):
     """The tuples (rooms, derivations of the names) with one of the wanted numbers of rooms together, ascending.
 
     Each wanted number can be made, so that no search is in vain.
     """
+    if len(wanted) == 0:
+        return
     if len(names) == 0:
         yield (0, ())
         return
     name, others = names[0], names[1:]
-    fits = [many for many in sizes[name] if _fits(sizes, others, many, wanted)]
-    for rooms, made in _derived(grammar, sizes, name, fits):
-        left = [total - rooms for total in wanted if _can_make(sizes, others, total - rooms)]
-        for more, rest in _derived_in_row(grammar, sizes, others, left):
+    fits = [many for many in totals[(name,)] if _fits(totals, others, many, wanted)]
+    for rooms, made in _derived(grammar, totals, name, fits):
+        left = [total - rooms for total in wanted if total - rooms in totals[others]]
+        for more, rest in _derived_in_row(grammar, totals, others, left):
             yield (rooms + more, (made, *rest))
 
 
-def _fits(sizes, others, many, wanted):
+def _fits(totals, others, many, wanted):
     """Tell whether so many rooms ahead of those of the other names can give a wanted number."""
     for total in wanted:
-        if _can_make(sizes, others, total - many):
+        if total - many in totals[others]:
             return True
     return False

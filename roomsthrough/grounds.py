@@ -31,10 +31,10 @@ class Ground:
         self._closures = {}
         self._backs = {}
 
-    def group(self, state):
-        """The number of the group of a state."""
+    def group(self, state, most=None):
+        """The number of the group of a state, TooMany() if more than most new states are behind it."""
         if state not in self._groups:
-            self._explore(state)
+            self._explore(state, most)
         return self._groups[state]
 
     def closure(self, number):
@@ -50,21 +50,21 @@ class Ground:
             self._closures[number] = sorted(list(seen))
         return self._closures[number]
 
-    def backs(self, state, mouth, mask):
+    def backs(self, state, mouth, mask, most=None):
         """The tuples (bit, group) of coming back out of a mouth, gone into in a state, with the bags of a mask."""
         key = (state, mask)
         if key not in self._backs:
             bags = [outcome for outcome in outcomes_in(self.bits, mask) if outcome != STAR]
-            self._backs[key] = [(self.bits[bag], self.group(come_back(state, mouth, bag))) for bag in bags]
+            self._backs[key] = [(self.bits[bag], self.group(come_back(state, mouth, bag), most)) for bag in bags]
         return self._backs[key]
 
-    def _explore(self, first):
+    def _explore(self, first, most):
         """Add the groups of all states that steps lead to from a new one."""
-        behind = self._new_steps(first)
+        behind = self._new_steps(first, most)
         for members in _groups_in(behind, first):
             self._add(members, behind)
 
-    def _new_steps(self, first):
+    def _new_steps(self, first, most):
         """The dict from all new states that steps lead to, to the lists of the states behind one step."""
         behind = {}
         todo = [first]
@@ -73,7 +73,7 @@ class Ground:
             if state in behind:
                 continue
             behind[state] = [after for _, after in moves(self.room, self.rules, state)]
-            if len(behind) > MOST_STATES:
+            if most is not None and len(behind) > most:
                 raise TooMany()
             todo.extend([after for after in behind[state] if after not in self._groups])
         return behind

@@ -13,7 +13,7 @@ class Reach:
 
     def __init__(self, grammar, rules):
         self.grammar = grammar
-        self.numbers = {name: [] for name in grammar.names()}
+        self.of_name = {name: [] for name in grammar.names()}
         self.shapes = []
         self.derivations = []
         self._shaper = Shaper(rules)
@@ -44,7 +44,7 @@ class Reach:
         found = {}
         for index, children in candidates:
             name, room, _ = self.grammar.rows[index]
-            key = (name, self._shaper.shape(room, tuple([self.shapes[child] for child in children])))
+            key = (name, self._shaper.shape_behind(room, tuple([self.shapes[child] for child in children])))
             order = (index, self._places(children), children)
             if key not in self._known and (key not in found or order < found[key]):
                 found[key] = order
@@ -57,7 +57,7 @@ class Reach:
         if number == MOST_REACHED:
             raise TooMany()
         self._known[key] = True
-        self.numbers[name].append(number)
+        self.of_name[name].append(number)
         self.shapes.append(shape)
         self.derivations.append((index, tuple([self.derivations[child] for child in children])))
         self._rooms.append(rooms)
@@ -74,9 +74,9 @@ class Reach:
             return [(number,)] if names[0] == name else []
         found = []
         if names[0] == name:
-            found += [(number, other) for other in self.numbers[names[1]]]
+            found += [(number, other) for other in self.of_name[names[1]]]
         if names[1] == name:
-            found += [(other, number) for other in self.numbers[names[0]] if other != number]
+            found += [(other, number) for other in self.of_name[names[0]] if other != number]
         return found
 
     def _wait(self, index, children):

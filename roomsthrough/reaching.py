@@ -12,7 +12,7 @@ def reached(grammar, rules):
     need_grammar(grammar)
     need_rules(rules)
     reach = Reach(grammar, rules)
-    return {name: [full_with(rules, reach.shapes[k]) for k in reach.numbers[name]] for name in grammar.names()}
+    return {name: [full_with(rules, reach.shapes[k]) for k in reach.of_name[name]] for name in grammar.names()}
 
 
 def least_of(grammar, rules, name, full):
@@ -24,7 +24,7 @@ def least_of(grammar, rules, name, full):
         raise BadFull(full)
     reach = Reach(grammar, rules)
     if full.base.rules == rules:
-        for number in reach.numbers[name]:
+        for number in reach.of_name[name]:
             if reach.shapes[number] == full.shape:
                 return reach.derivations[number]
     raise BadFull(full)

@@ -27,7 +27,7 @@ class Tour:
 
     def met(self, state):
         """The list of the groups of all states that can be met from a state on."""
-        found = [self.ground.group(state)]
+        found = [self.ground.group(state, MOST_STATES)]
         seen = {found[0]: True}
         many = 0
         at = 0
@@ -62,7 +62,7 @@ class Tour:
 
     def row_from(self, first):
         """The row of the shape of the whole, for whoever begins in a state."""
-        number = self.ground.group(first)
+        number = self.ground.group(first, MOST_STATES)
         # Whatever is known was counted when it was found.
         if not self.ground.is_small and self._known_view(number) is None:
             self.met(first)
@@ -72,7 +72,8 @@ class Tour:
         """The list of the groups that a step or a child's bag leads to from a group."""
         found = list(self.ground.followers[number])
         for state, mouth in self.ground.doors[number]:
-            found.extend([back for _, back in self.ground.backs(state, mouth, self.row(state, mouth)[0])])
+            backs = self.ground.backs(state, mouth, self.row(state, mouth)[0], MOST_STATES)
+            found.extend([back for _, back in backs])
         return found
 
     def _view(self, number):
@@ -158,17 +159,17 @@ class Shaper:
         self._grounds = {}
         self._known = {}
 
-    def ground(self, room):
+    def ground_of(self, room):
         """The ground of a room."""
         if room.rows not in self._grounds:
             self._grounds[room.rows] = Ground(room, self.rules)
         return self._grounds[room.rows]
 
-    def shape(self, room, shapes):
+    def shape_behind(self, room, shapes):
         """The shape of a level with this first room whose children have a tuple of shapes."""
         key = (room.rows, shapes)
         if key not in self._known:
-            self._known[key] = shape_of(self.ground(room), shapes)
+            self._known[key] = shape_of(self.ground_of(room), shapes)
         return self._known[key]
 
 
@@ -185,6 +186,6 @@ def shapes_of_parts(parts, rules):
     tours = []
     for room, inside in parts:
         shapes = tuple([found[child] for child in inside])
-        found.append(shaper.shape(room, shapes))
-        tours.append(Tour(shaper.ground(room), shapes))
+        found.append(shaper.shape_behind(room, shapes))
+        tours.append(Tour(shaper.ground_of(room), shapes))
     return (found, tours)

@@ -59,7 +59,7 @@ def _need_question(grammar, rules, wish):
 def _least_one(grammar, rules, wish, wanted):
     """The least derivation of the start whose level fulfils the wish, or does not, as wanted; None if there is none."""
     reach = Reach(grammar, rules)
-    for number in reach.numbers[grammar.start]:
+    for number in reach.of_name[grammar.start]:
         if meets(full_with(rules, reach.shapes[number]), wish) == wanted:
             return reach.derivations[number]
     return None
@@ -87,17 +87,24 @@ def _each_once(shapes):
 def _is_closed(grammar, rules, shapes):
     """Tell whether each production leads from shapes of its names to a shape of its name."""
     shaper = Shaper(rules)
-    for name, room, names in grammar.rows:
-        for row in _rows_of(shapes, names):
-            if shaper.shape(room, row) not in shapes[name]:
-                return False
+    for production in grammar.rows:
+        if not _leads_on(shaper, shapes, production):
+            return False
     return True
 
 
-def _rows_of(shapes, names):
-    """The list of the tuples with a shape for each of the names."""
-    if len(names) == 0:
-        return [()]
-    if len(names) == 1:
-        return [(shape,) for shape in shapes[names[0]]]
-    return list(product(shapes[names[0]], shapes[names[1]]))
+def _leads_on(shaper, shapes, production):
+    """Tell whether a production leads from all shapes of its names to a shape of its name."""
+    name, room, names = production
+    firsts = list(shapes[names[0]]) if len(names) > 0 else []
+    if len(names) == 2:
+        seconds = list(shapes[names[1]])
+        for one, other in product(firsts, seconds):
+            if shaper.shape_behind(room, (one, other)) not in shapes[name]:
+                return False
+        return True
+    rows = [(one,) for one in firsts] if len(names) == 1 else [()]
+    for row in rows:
+        if shaper.shape_behind(room, row) not in shapes[name]:
+            return False
+    return True

@@ -365,6 +365,8 @@ class ErrorTest(unittest.TestCase):
         self.assertEqual(1, len(full_of(MOUTH_ROOM, RULES, [shut]).weak()[NOTHING]))
         wanted_error(self, TooMany, None, None, full_of, MOUTH_ROOM, RULES, [free])
         wanted_error(self, TooMany, None, None, fragile, MOUTH_ROOM, RULES, [free], NOTHING)
+        drawn = Full(none(RULES), {bag: [(bag,)] for bag in RULES.bags()})
+        self.assertEqual([()], full_of(MOUTH_ROOM, RULES, [drawn]).weak()[NOTHING])
         self.assertEqual(met(MOUTH_ROOM, RULES, [none(RULES)], NOTHING),
                          [state for state, _ in fragile(MOUTH_ROOM, RULES, [shut], NOTHING)])
         self.assertIn((begin(MOUTH_ROOM, RULES, NOTHING), (NOTHING,)), fragile(MOUTH_ROOM, RULES, [shut], NOTHING))
