@@ -5,7 +5,7 @@ from roomsthrough.bags import STAR
 
 def bits_of(rules):
     """The dict from all outcomes, listed in their order, to their bits."""
-    return {outcome: 1 << at for at, outcome in enumerate([*rules.bags(), STAR])}
+    return {outcome: 1 << at for at, outcome in enumerate(rules.bags() + [STAR])}
 
 
 def mask_of(bits, outcomes):

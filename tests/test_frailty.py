@@ -135,6 +135,26 @@ class SearchTest(unittest.TestCase):
             self.assertIs(False, is_spoiler(level, rules, bag, found[:length]))
         return len(walk(level, rules, bag, found)) > 1
 
+    def test_the_nearest_of_several_traps(self):
+        """A trap in the room itself, one in a child or one two rooms deep: whichever takes the fewest letters."""
+        seen = set()
+        for left, right, deep in [(m, t, j) for m in (1, 2, 3) for t in (1, 2, 3, 4) for j in (1, 2, 3, 4) if m + t < 6]:
+            room = Room(["1" + "." * (left - 1) + "@" + "." * (right - 1) + "v", "#" * left + "*" + "#" * (right - 1) + "."])
+            trap = Level(Room(["@" + "." * (deep - 1) + "v", "#" * deep + "."]))
+            for child in (trap, Level(Room(["*@1"]), [trap]), Level(Room(["1@v", "##."]), [trap])):
+                level = Level(room, [child])
+                positions = naive_positions(level, RULES, NOTHING)
+                told = naive_options(positions)
+                seen.add(self.check_spoiler(level, RULES, NOTHING, plays_to(positions), told))
+        self.assertEqual({True, False}, seen)
+
+    def test_the_nearer_of_two_mouths(self):
+        for left, right, one, other in [(a, b, c, d) for a in (1, 2) for b in (1, 2, 3) for c in (1, 2, 3) for d in (1, 3)]:
+            room = Room(["1" + "." * (left - 1) + "@" + "." * (right - 1) + "2", "#" * left + "*" + "#" * right])
+            traps = [Level(Room(["@" + "." * (deep - 1) + "v", "#" * deep + "."])) for deep in (one, other)]
+            level = Level(room, traps)
+            self.assertEqual(min(left + one, right + other) + 1, len(spoiler(level, RULES, NOTHING)))
+
     def test_options_and_judged_plays(self):
         chance = random.Random(102)
         for number in range(48):

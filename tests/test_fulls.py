@@ -359,6 +359,58 @@ class ErrorTest(unittest.TestCase):
         self.assertTrue(full_of(FULL_ROOM, RULES, []).base == table(Level(FULL_ROOM), RULES))
         self.assertTrue(twins(FULL_ROOM, FULL_ROOM, RULES))
 
+    def test_just_as_many_states_as_are_let(self):
+        """Rooms, the outcomes of their children by bags, and the bag with which the most states can be met."""
+        just = [
+            (["...o", ".ob1", "...a", "bA@."], [[10, 4, 12, 1]], (0, 0)),
+            (["..b..", ".1..b", "..ao.", ".@b.."], [[0, 2, 4, 12]], (0, 0)),
+            (["...1@b", "o.a...", "...ba2"], [[0, 11, 8, 0], [2, 0, 0, 2]], (0, 0)),
+            (["..a.", ".@..", ".oA.", ".21."], [[4, 5, 3, 0], [8, 12, 9, 0]], (0, 1)),
+        ]
+        beyond = [
+            (["@...", "A...", "..1a", "o.A.", "..ao"], [[3, 15, 12, 2]], (0, 1)),
+            ([".a..", "..@.", "Ao1A", "...."], [[10, 0, 6, 0]], (1, 0)),
+            ([".1...o", "@ao...", ".a2..."], [[2, 0, 2, 2], [3, 1, 0, 1]], (0, 0)),
+            (["@o...", "x..x.", "x2op1", "x.pxp"], [[10, 2, 0, 7], [5, 2, 1, 1]], (1, 1)),
+        ]
+        for rows, told, bag in just + beyond:
+            room, fulls = Room(rows), [self.full_with_no_options(masks) for masks in told]
+            tables = [one.base for one in fulls]
+            if (rows, told, bag) in just:
+                self.assertEqual(3000, len(met(room, RULES, tables, bag)))
+                self.assertEqual(3000, len(fragile(room, RULES, fulls, bag)))
+                self.assertTrue(full_of(room, RULES, fulls).base == table_of(room, RULES, tables))
+                continue
+            wanted_error(self, TooMany, None, None, met, room, RULES, tables, bag)
+            wanted_error(self, TooMany, None, None, table_of, room, RULES, tables)
+            wanted_error(self, TooMany, None, None, fragile, room, RULES, fulls, bag)
+            wanted_error(self, TooMany, None, None, full_of, room, RULES, fulls)
+
+    def full_with_no_options(self, masks):
+        """A full whose outcomes for each bag are those bags whose bits are in the mask."""
+        bags = RULES.bags()
+        rows = {bag: [bags[at] for at in range(4) if mask >> at & 1] for bag, mask in zip(bags, masks)}
+        return Full(Table(RULES, rows), {bag: [()] for bag in bags})
+
+    def test_too_many_where_the_tables_have_too_many(self):
+        chance = random.Random(117)
+        seen = {True: 0, False: 0}
+        while min(seen.values()) < 12:
+            rules = ALL_RULES[4 + chance.randrange(4)]
+            marks = chance.choice(["......ab", ".....abAB", "....o.a", "......xo", "......"])
+            room = random_room(chance, 2, 24, marks)
+            fulls = [Full(random_table(chance, rules), {bag: [()] for bag in rules.bags()}) for _ in range(2)]
+            try:
+                wanted, raised = table_of(room, rules, [one.base for one in fulls]), False
+            except TooMany:
+                wanted, raised = None, True
+            if seen[raised] < 12 and len(room.rows) * len(room.rows[0]) > 12:
+                seen[raised] += 1
+                if raised:
+                    wanted_error(self, TooMany, None, None, full_of, room, rules, fulls)
+                else:
+                    self.assertTrue(full_of(room, rules, fulls).base == wanted)
+
     def test_too_many_with_the_tables_of_the_children(self):
         weak = {bag: [()] for bag in RULES.bags()}
         shut, free = Full(none(RULES), weak), Full(same(RULES), weak)

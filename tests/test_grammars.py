@@ -168,6 +168,10 @@ class LevelOfTest(unittest.TestCase):
         for number in (60, 61, 500, 30000):
             made = chain(number)
             wanted_error(self, BadDerivation, None, None, level_of, ROW, made)
+        huge = (1, ())
+        for _ in range(100):
+            huge = (0, (huge, (2, (huge,))))
+        wanted_error(self, BadDerivation, "value", huge, level_of, TREE, huge)
         wide = (1, ())
         for _ in range(29):
             wide = (0, (wide, (2, ((1, ()),))))
@@ -292,6 +296,11 @@ class DerivationsTest(unittest.TestCase):
         for thing in anything() + [31, -1, 30.0, "3", [3], (3,), True]:
             if isinstance(thing, bool) or not isinstance(thing, int) or not 0 <= thing <= 30:
                 wanted_error(self, BadCount, "value", thing, first, ROW, "s", thing)
+        for thing in anything():
+            if not isinstance(thing, Grammar):
+                wanted_error(self, BadGrammar, "value", thing, first, thing, None, None)
+                wanted_error(self, BadGrammar, "value", thing, is_made, thing, None, None)
+                wanted_error(self, BadGrammar, "value", thing, level_of, thing, None)
         self.assertIsNone(first(ROW, "s", 0))
         self.assertEqual((1, ()), first(ROW, "s", 30))
 

@@ -132,17 +132,33 @@ class ReachedTest(unittest.TestCase):
         self.assertEqual(2, len(found))
 
     def test_trees_are_compared_by_their_parts_and_not_by_their_sizes(self):
-        """Both (1, ((2, ..), ..)) with a small first part and with a large one have equally many rooms."""
-        shut = Room(["@#12"])
-        grammar = Grammar([("s", shut, ("t", "u")), ("t", LINE, ("u",)), ("t", Room(["@a"]), ()), ("u", Room(["1@"]), ("t",)),
-                           ("u", Room(["@b"]), ())], "s")
-        for name in grammar.names():
-            wanted = listed_fulls(grammar, RULES, name, 9)
-            found = reached(grammar, RULES)[name]
-            self.assertEqual(len(wanted), len(found))
+        """Both keys can be had with the smaller part first or with the larger one, whose production stands ahead."""
+        grammar = Grammar([("s", FORK, ("t", "t")), ("t", Room(["1@b"]), ("u",)), ("t", Room(["@a"]), ()),
+                           ("u", Room(["@"]), ())], "s")
+        both = [one for one in reached(grammar, RULES)["s"] if (1, 1) in one.base.outcomes((0, 0))]
+        self.assertEqual(1, len(both))
+        self.assertEqual((0, ((1, ((3, ()),)), (2, ()))), least_of(grammar, RULES, "s", both[0]))
+
+    def test_forks_whose_parts_can_be_exchanged(self):
+        chance = random.Random(133)
+        exchanged = 0
+        for number in range(60):
+            rules = ALL_RULES[number % 8]
+            rows = list(random_grammar(chance, 5, ("t", "u")).rows)
+            rows.insert(chance.randrange(len(rows) + 1), ("s", FORK, ("t", "t")))
+            grammar = Grammar(rows + [("s", FORK, ("u", "t")), ("s", FORK, ("t", "u"))], "s")
+            try:
+                found = reached(grammar, rules)["s"]
+            except TooMany:
+                continue
+            wanted = listed_fulls(grammar, rules, "s", 7, 250)
+            if wanted is None or len(found) > 20:
+                continue
             for (one, made), other in zip(wanted, found):
                 self.assertTrue(one == other)
-                self.assertEqual(made, least_of(grammar, RULES, name, one))
+                self.assertEqual(made, least_of(grammar, rules, "s", one))
+                exchanged += rooms_in(made[1][0]) > rooms_in(made[1][1])
+        self.assertGreater(exchanged, 15)
 
     def test_more_rooms_than_a_level_can_have(self):
         rules = Rules(2)
