@@ -148,6 +148,19 @@ class SearchTest(unittest.TestCase):
                 seen.add(self.check_spoiler(level, RULES, NOTHING, plays_to(positions), told))
         self.assertEqual({True, False}, seen)
 
+    def test_a_trap_in_the_room_or_some_rooms_deeper(self):
+        rooms = {
+            4: ["1@...^", "#*####"], 5: ["1@....", "#*###>"], 6: ["1@....", "#*###.", "#####>"],
+            7: ["1@....", "#*###.", "#####.", "#####>"],
+        }
+        for here, rows in rooms.items():
+            for deep, long in [(a, b) for a in (1, 2, 3) for b in (1, 2, 3)]:
+                inner = Level(Room(["@" + "." * (long - 1) + ">"]))
+                for _ in range(deep - 1):
+                    inner = Level(Room(["*@1"]), [inner])
+                found = spoiler(Level(Room(rows), [inner]), RULES, NOTHING)
+                self.assertEqual(min(here, 2 * deep + long), len(found))
+
     def test_the_nearer_of_two_mouths(self):
         for left, right, one, other in [(a, b, c, d) for a in (1, 2) for b in (1, 2, 3) for c in (1, 2, 3) for d in (1, 3)]:
             room = Room(["1" + "." * (left - 1) + "@" + "." * (right - 1) + "2", "#" * left + "*" + "#" * right])
