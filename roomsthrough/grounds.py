@@ -13,7 +13,8 @@ class Ground:
 
     For each number: members are the states of the group, followers the groups that a step leads to, ends the mask
     of the outcomes that its states lead to at once, doors the tuples (state, mouth) of the mouths to go in at, and
-    views what tours have found out.
+    views what tours have found out. The room is small if it is known that too many states can never be met in it;
+    counted is how often tours have counted them.
     """
 
     def __init__(self, room, rules):
@@ -27,6 +28,7 @@ class Ground:
         self.views = []
         self.places = {bag: at for at, bag in enumerate(rules.bags())}
         self.is_small = _states_at_most(room, rules) <= MOST_STATES
+        self.counted = 0
         self._groups = {}
         self._closures = {}
         self._backs = {}
@@ -43,7 +45,8 @@ class Ground:
             seen = {number: True}
             todo = [number]
             while todo:
-                for after in self.followers[todo.pop()]:
+                group = todo.pop()
+                for after in self.followers[group]:
                     if after not in seen:
                         seen[after] = True
                         todo.append(after)
@@ -157,7 +160,8 @@ def _gathered(ahead, first, placed):
     placed[first] = True
     at = 0
     while at < len(found):
-        for earlier in ahead[found[at]]:
+        state = found[at]
+        for earlier in ahead[state]:
             if earlier not in placed:
                 placed[earlier] = True
                 found.append(earlier)

@@ -15,7 +15,7 @@ class Reach:
         self.grammar = grammar
         self.of_name = {name: [] for name in grammar.names()}
         self.shapes = []
-        self.derivations = []
+        self.trees = []
         self._shaper = Shaper(rules)
         self._known = {}
         self._rooms = []
@@ -59,7 +59,7 @@ class Reach:
         self._known[key] = True
         self.of_name[name].append(number)
         self.shapes.append(shape)
-        self.derivations.append((index, tuple([self.derivations[child] for child in children])))
+        self.trees.append((index, tuple([self.trees[child] for child in children])))
         self._rooms.append(rooms)
         self._made_of.append((index, children))
         for at, production in enumerate(self.grammar.rows):

@@ -26,5 +26,5 @@ def least_of(grammar, rules, name, full):
     if full.base.rules == rules:
         for number in reach.of_name[name]:
             if reach.shapes[number] == full.shape:
-                return reach.derivations[number]
+                return reach.trees[number]
     raise BadFull(full)

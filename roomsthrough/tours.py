@@ -10,6 +10,8 @@ from roomsthrough.grounds import Ground
 from roomsthrough.masks import least_masks
 from roomsthrough.moving import MOST_STATES, first_state
 
+MANY_COUNTS = 100
+
 
 class Tour:
     """A ground and the shapes of the children behind its mouths.
@@ -32,10 +34,11 @@ class Tour:
         many = 0
         at = 0
         while at < len(found):
-            many += len(self.ground.members[found[at]])
+            number = found[at]
+            many += len(self.ground.members[number])
             if many > MOST_STATES:
                 raise TooMany()
-            for after in self._leads(found[at]):
+            for after in self._leads(number):
                 if after not in seen:
                     seen[after] = True
                     found.append(after)
@@ -65,8 +68,16 @@ class Tour:
         number = self.ground.group(first, MOST_STATES)
         # Whatever is known was counted when it was found.
         if not self.ground.is_small and self._known_view(number) is None:
-            self.met(first)
+            self._count(first)
         return self._view(number)[:2]
+
+    def _count(self, first):
+        """Raise TooMany() if too many states can be met from a state on."""
+        self.met(first)
+        self.ground.counted += 1
+        # In a grammar one room is toured thousands of times: a single larger count can stand for all the others.
+        if self.ground.counted == MANY_COUNTS:
+            self.ground.is_small = _is_small_with_all_bags(self.ground)
 
     def _leads(self, number):
         """The list of the groups that a step or a child's bag leads to from a group."""
@@ -140,6 +151,19 @@ class Tour:
         for mask in weak:
             options[_worth_of(worths, mask, star)] = True
         return _worth_of(worths, row, star)
+
+
+def _is_small_with_all_bags(ground):
+    """Tell whether not too many states can be met even if each bag can be carried out of each mouth."""
+    bags = sum([ground.bits[bag] for bag in ground.places])
+    shape = tuple([(bags, ()) for _ in ground.places])
+    tour = Tour(ground, tuple([shape for _ in range(ground.room.mouths)]))
+    try:
+        for bag in ground.places:
+            tour.met(first_state(ground.room, bag))
+    except TooMany:
+        return False
+    return True
 
 
 def _worth_of(worths, mask, star):

@@ -61,7 +61,7 @@ def _least_one(grammar, rules, wish, wanted):
     reach = Reach(grammar, rules)
     for number in reach.of_name[grammar.start]:
         if meets(full_with(rules, reach.shapes[number]), wish) == wanted:
-            return reach.derivations[number]
+            return reach.trees[number]
     return None
 
 

@@ -20,6 +20,7 @@ METHODS = set(
     "append bit_length clear copy count endswith extend find get index insert items join keys lower pop replace"
     " setdefault split startswith strip upper values translate".split()
 )
+CHANGING = {"append", "clear", "extend", "insert", "pop", "remove", "reverse", "setdefault", "update", "sort"}
 DOUBLE = {"__init__", "__eq__", "__or__"}
 WORDS = ["type", "typing", "enum", "register", "mro", "elements", "open", "input", "law", "eval", "exec", "globals"]
 INTERFACE = {
@@ -236,6 +237,21 @@ class FormTest(unittest.TestCase):
         for place, node in nodes(ast.Assign):
             if isinstance(node.value, ast.Call) and isinstance(node.value.func, ast.Name):
                 self.assertNotIn(node.value.func.id, {"zip", "enumerate", "reversed", "map"}, place)
+
+    def test_what_a_loop_iterates_over_is_not_changed_in_it(self):
+        for place, node in nodes(ast.For):
+            names = {part.id for part in ast.walk(node.iter) if isinstance(part, ast.Name)} - {"self"}
+            for part in [inner for line in node.body for inner in ast.walk(line)]:
+                changed = []
+                if isinstance(part, ast.Call) and isinstance(part.func, ast.Attribute):
+                    changed = [part.func.value] if part.func.attr in CHANGING else []
+                elif isinstance(part, (ast.Assign, ast.AugAssign)):
+                    targets = part.targets if isinstance(part, ast.Assign) else [part.target]
+                    changed = [target.value for target in targets if isinstance(target, (ast.Subscript, ast.Attribute))]
+                for thing in changed:
+                    while isinstance(thing, (ast.Subscript, ast.Attribute)):
+                        thing = thing.value
+                    self.assertNotIn(getattr(thing, "id", None), names, place)
 
     def test_the_interface_is_defined_where_it_is_listed(self):
         for name, wanted in INTERFACE.items():

@@ -195,6 +195,32 @@ class ReachedTest(unittest.TestCase):
         found, other = reached(one, RULES)["s"], reached(two, RULES)["s"]
         self.assertTrue(len(found) == len(other) == 1 and found[0] == other[0])
 
+    def test_one_room_that_is_searched_for_many_fulls(self):
+        """The first room is never too large, the second one with none of these fulls, the third one with some."""
+        one = [["@.1.", "a..o", "2A.."], ["A@bb"], [".", "B", "@"], ["b.@", "B*b"], ["a@aA<a"], ["1@"]]
+        two = [[".@..a", "a....", "b1.a2"], [".B@", ".a*"], ["a..@bb"], ["@A<"], ["@", "1"]]
+        three = [["A.....", "1..2..", "......", "..@A.B"], ["@"], ["*@<."], ["<.@"], ["BaB", "A@*"], ["A", "@", "<", "1"]]
+        for rules, rooms, large in ((Rules(1, True), one, False), (Rules(2, True), two, False), (Rules(2, True), three, True)):
+            rooms = [Room(rows) for rows in rooms]
+            inner = [("t", room, ("t",) * room.mouths) for room in rooms[1:]]
+            found = reached(Grammar(inner, "t"), rules)["t"]
+            self.assertGreater(len(found) ** 2 * len(rules.bags()), 200)
+            wanted = []
+            for fulls in itertools.product(found, repeat=2):
+                try:
+                    wanted.append(full_of(rooms[0], rules, fulls))
+                except TooMany:
+                    wanted.append(None)
+            grammar = Grammar([("s", rooms[0], ("t", "t")), *inner], "s")
+            if large:
+                self.assertGreater(len(wanted), wanted.count(None))
+                wanted_error(self, TooMany, None, None, reached, grammar, rules)
+                continue
+            again = reached(grammar, rules)
+            self.assertTrue(again["t"] == found)
+            self.assertTrue(all(len(place_in(again["s"], one)) == 1 for one in wanted))
+            self.assertTrue(all(one in wanted for one in again["s"]))
+
     def test_what_is_returned_is_new_each_time(self):
         reached(TREE, RULES)["s"].clear()
         reached(TREE, RULES).clear()
