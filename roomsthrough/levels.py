@@ -60,12 +60,17 @@ def need_level(level):
         raise BadLevel(level)
 
 
-def row_of(room, end, number):
-    """The level of so many equal rooms with one mouth, one behind the other, and an end."""
+def need_row(room, end):
+    """Raise the error of the first of these arguments that is wrong for a row of rooms with an end."""
     need_room(room)
     if room.mouths != 1:
         raise BadRoom(room)
     need_level(end)
+
+
+def row_of(room, end, number):
+    """The level of so many equal rooms with one mouth, one behind the other, and an end."""
+    need_row(room, end)
     if not is_whole(number) or not 0 <= number <= MOST_IN_ROW:
         raise BadCount(number)
     level = end

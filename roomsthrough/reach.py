@@ -3,20 +3,24 @@
 from heapq import heappop, heappush
 
 from roomsthrough.errors import TooMany
-from roomsthrough.tours import Shaper
 
 MOST_REACHED = 300
 
 
 class Reach:
-    """A number for each name and shape that are reached, in the order in which they are listed."""
+    """A number for each name and shape that are reached, in the order in which they are listed.
 
-    def __init__(self, grammar, rules):
+    What a shape is, the shaper tells. For each number: shapes has its shape, trees its least derivation. behind is
+    the dict from all tuples (index of a production, numbers of its children) to the numbers that they make.
+    """
+
+    def __init__(self, grammar, shaper):
         self.grammar = grammar
         self.of_name = {name: [] for name in grammar.names()}
         self.shapes = []
         self.trees = []
-        self._shaper = Shaper(rules)
+        self.behind = {}
+        self._shaper = shaper
         self._known = {}
         self._rooms = []
         self._made_of = []
@@ -26,6 +30,10 @@ class Reach:
         self._queue = []
         self._find()
 
+    def number_of(self, name, shape):
+        """The number of a name and a shape, None if they are not reached."""
+        return self._known.get((name, shape))
+
     def _find(self):
         """Find everything, one number of rooms after the other."""
         for index, production in enumerate(self.grammar.rows):
@@ -33,18 +41,25 @@ class Reach:
                 self._wait(index, ())
         while self._queue:
             rooms = heappop(self._queue)
-            found = self._least_new(self._waiting.pop(rooms))
+            candidates = self._waiting.pop(rooms)
+            keys = [self._key(index, children) for index, children in candidates]
+            found = self._least_new(candidates, keys)
             for key in sorted(list(found), key=lambda k: found[k]):
                 self._add(key, found[key][0], found[key][2], rooms)
+            for candidate, key in zip(candidates, keys):
+                self.behind[candidate] = self._known[key]
             if len(found) > 0:
                 self._rank()
 
-    def _least_new(self, candidates):
-        """For each new tuple (name, shape) that candidates with equally many rooms give, the least of these."""
+    def _key(self, index, children):
+        """The tuple (name, shape) that a production makes of the numbers of its children."""
+        name, room, _ = self.grammar.rows[index]
+        return (name, self._shaper.shape_behind(room, tuple([self.shapes[child] for child in children])))
+
+    def _least_new(self, candidates, keys):
+        """For each new one among the keys of candidates with equally many rooms, the least candidate."""
         found = {}
-        for index, children in candidates:
-            name, room, _ = self.grammar.rows[index]
-            key = (name, self._shaper.shape_behind(room, tuple([self.shapes[child] for child in children])))
+        for (index, children), key in zip(candidates, keys):
             order = (index, self._places(children), children)
             if key not in self._known and (key not in found or order < found[key]):
                 found[key] = order
@@ -56,7 +71,7 @@ class Reach:
         number = len(self.shapes)
         if number == MOST_REACHED:
             raise TooMany()
-        self._known[key] = True
+        self._known[key] = number
         self.of_name[name].append(number)
         self.shapes.append(shape)
         self.trees.append((index, tuple([self.trees[child] for child in children])))

@@ -197,6 +197,19 @@ class Shaper:
         return self._known[key]
 
 
+class TwoShapers:
+    """Finds the shapes of levels under two books of rules, side by side as tuples (shape, other shape)."""
+
+    def __init__(self, rules, other):
+        self._one = Shaper(rules)
+        self._other = Shaper(other)
+
+    def shape_behind(self, room, pairs):
+        """The shapes of a level with this first room whose children have a tuple of such tuples."""
+        shape = self._one.shape_behind(room, tuple([pair[0] for pair in pairs]))
+        return (shape, self._other.shape_behind(room, tuple([pair[1] for pair in pairs])))
+
+
 def shape_of(ground, shapes):
     """The shape of a level with this ground's room first whose children have these shapes."""
     tour = Tour(ground, shapes)

@@ -1,15 +1,14 @@
 """Verdicts: whether each level that a grammar makes fulfils a wish, or some do, and papers that show it."""
 
-from itertools import product
-
-from roomsthrough.errors import NoPaper, TooMany
-from roomsthrough.fulls import Full, full_with
+from roomsthrough.closing import is_closed_by
+from roomsthrough.errors import NoPaper
+from roomsthrough.fulls import Full
 from roomsthrough.grammars import need_grammar
 from roomsthrough.reach import Reach
 from roomsthrough.reaching import reached
 from roomsthrough.rules import need_rules
 from roomsthrough.tours import Shaper
-from roomsthrough.wishes import meets, need_wish
+from roomsthrough.wishes import is_met, meets, need_wish
 
 
 def every(grammar, rules, wish):
@@ -42,11 +41,8 @@ def is_verdict_paper(grammar, rules, wish, thing):
     for full in thing[grammar.start]:
         if not meets(full, wish):
             return False
-    shapes = {name: _each_once([full.shape for full in thing[name]]) for name in grammar.names()}
-    try:
-        return _is_closed(grammar, rules, shapes)
-    except TooMany:
-        return False
+    shapes = {name: {full.shape: True for full in thing[name]} for name in grammar.names()}
+    return is_closed_by(grammar, Shaper(rules), shapes)
 
 
 def _need_question(grammar, rules, wish):
@@ -58,9 +54,9 @@ def _need_question(grammar, rules, wish):
 
 def _least_one(grammar, rules, wish, wanted):
     """The least derivation of the start whose level fulfils the wish, or does not, as wanted; None if there is none."""
-    reach = Reach(grammar, rules)
+    reach = Reach(grammar, Shaper(rules))
     for number in reach.of_name[grammar.start]:
-        if meets(full_with(rules, reach.shapes[number]), wish) == wanted:
+        if is_met(rules, reach.shapes[number], wish) == wanted:
             return reach.trees[number]
     return None
 
@@ -76,35 +72,4 @@ def _is_dict_of_fulls(grammar, rules, thing):
         for full in thing[name]:
             if not isinstance(full, Full) or full.base.rules != rules:
                 return False
-    return True
-
-
-def _each_once(shapes):
-    """The dict of the shapes of a row, each of them once."""
-    return {shape: True for shape in shapes}
-
-
-def _is_closed(grammar, rules, shapes):
-    """Tell whether each production leads from shapes of its names to a shape of its name."""
-    shaper = Shaper(rules)
-    for production in grammar.rows:
-        if not _leads_on(shaper, shapes, production):
-            return False
-    return True
-
-
-def _leads_on(shaper, shapes, production):
-    """Tell whether a production leads from all shapes of its names to a shape of its name."""
-    name, room, names = production
-    firsts = list(shapes[names[0]]) if len(names) > 0 else []
-    if len(names) == 2:
-        seconds = list(shapes[names[1]])
-        for one, other in product(firsts, seconds):
-            if shaper.shape_behind(room, (one, other)) not in shapes[name]:
-                return False
-        return True
-    rows = [(one,) for one in firsts] if len(names) == 1 else [()]
-    for row in rows:
-        if shaper.shape_behind(room, row) not in shapes[name]:
-            return False
     return True

@@ -14,6 +14,14 @@ class Walker:
         self.states = [first_state(level.room, bag)]
         self.end = None
 
+    def copied(self):
+        """Another walker who has come just as far."""
+        other = Walker(self.levels[0], self.rules, None)
+        other.levels = list(self.levels)
+        other.states = list(self.states)
+        other.end = self.end
+        return other
+
     def place(self):
         """The position, or how the play has ended."""
         return tuple(self.states) if self.end is None else self.end

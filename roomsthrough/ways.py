@@ -19,7 +19,7 @@ class Ways:
         """The least numbers of letters of the states of the part's first room, for whoever comes with a bag."""
         if (part, bag) not in self._best:
             room = self.parts[part][0]
-            self._best[(part, bag)] = least_numbers(room, self.rules, self._inner(part), bag)
+            self._best[(part, bag)] = least_numbers(room, self.rules, self.inner(part), bag)
         return self._best[(part, bag)]
 
     def to_state(self, part, bag, goal):
@@ -49,12 +49,13 @@ class Ways:
             return way
         return way + "i" + self.to_end(inside[int(mark) - 1], state[4], STAR)
 
-    def _inner(self, part):
+    def inner(self, part):
+        """For each mouth of the part's first room the dict from bags to the outcomes behind it with their costs."""
         return [self._visits[child] for child in self.parts[part][1]]
 
     def _ahead(self, part, bag):
         """The dict from all states but the beginning to tuples (letter, state ahead of it on a least way)."""
-        room, best, inner = self.parts[part][0], self.numbers(part, bag), self._inner(part)
+        room, best, inner = self.parts[part][0], self.numbers(part, bag), self.inner(part)
         found = {}
         for state in best:
             for letter, more, after in leads(room, self.rules, inner, state):
@@ -64,7 +65,7 @@ class Ways:
 
     def _last_state(self, part, bag, outcome):
         """The state from which a least way ends with the outcome."""
-        room, best, inner = self.parts[part][0], self.numbers(part, bag), self._inner(part)
+        room, best, inner = self.parts[part][0], self.numbers(part, bag), self.inner(part)
         cost = self.costs[part][(bag, outcome)]
         for state in best:
             for told, more in ends_at(room, inner, state):

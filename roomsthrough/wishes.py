@@ -2,7 +2,7 @@
 
 from roomsthrough.bags import STAR, is_bag
 from roomsthrough.errors import BadFull, BadWish
-from roomsthrough.fulls import Full
+from roomsthrough.fulls import Full, full_with
 from roomsthrough.rules import need_rules
 
 DEEPEST = 6
@@ -28,6 +28,11 @@ def meets(full, wish):
         raise BadFull(full)
     need_wish(full.base.rules, wish)
     return _holds(full, wish)
+
+
+def is_met(rules, shape, wish):
+    """Tell whether a level with this shape fulfils what is known to be a wish."""
+    return _holds(full_with(rules, shape), wish)
 
 
 def _is_wish(rules, thing, deepest):
