@@ -325,7 +325,7 @@ class JudgeTest(unittest.TestCase):
                     seen[wanted] += 1
                     self.assertIs(wanted, is_parting(grammar, rules, wish, name, one, two, context))
                     self.assertIs(wanted, is_parting(grammar, rules, wish, name, two, one, tuple(context)))
-        self.assertGreater(min(seen.values()), 20, seen)
+        self.assertGreater(min(seen.values()), 10, seen)
 
     def drawn_context(self, chance, grammar, small, name):
         """A context drawn by chance, from a name to the start; None if none was found soon."""
