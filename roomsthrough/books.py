@@ -42,7 +42,7 @@ def is_book_paper(grammar, rules, other, wish, thing):
     for one, two in thing[grammar.start]:
         if meets(one, wish) and not meets(two, wish):
             return False
-    shapes = {name: {(one.shape, two.shape): True for one, two in thing[name]} for name in grammar.names()}
+    shapes = {name: {(pair[0].shape, pair[1].shape): True for pair in thing[name]} for name in grammar.names()}
     return is_closed_by(grammar, TwoShapers(rules, other), shapes)
 
 

@@ -9,7 +9,7 @@ from roomsthrough.plain import is_whole
 from roomsthrough.rules import need_rules
 from roomsthrough.shortest import least_behind
 
-MOST_NUMBER = 1_000_000_000_000_000_000
+MOST_NUMBER = 1000000000000000000
 MOST_POSSIBLE = 24
 
 

@@ -41,7 +41,7 @@ def is_verdict_paper(grammar, rules, wish, thing):
     for full in thing[grammar.start]:
         if not meets(full, wish):
             return False
-    shapes = {name: {full.shape: True for full in thing[name]} for name in grammar.names()}
+    shapes = {name: {one.shape: True for one in thing[name]} for name in grammar.names()}
     return is_closed_by(grammar, Shaper(rules), shapes)
 
 

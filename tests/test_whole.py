@@ -1,6 +1,8 @@
 """The whole document once more: one level and one family of levels through all parts."""
 
+import os
 import random
+import re
 import unittest
 
 from naive import ALL_RULES, random_room
@@ -56,6 +58,19 @@ def mirrored_grammar(grammar):
 
 
 class ExampleTest(unittest.TestCase):
+    def test_the_examples_of_the_readme(self):
+        with open(os.path.join(os.path.dirname(os.path.dirname(__file__)), "README.md"), encoding="utf-8") as file:
+            code = "\n".join(re.findall(r"```python\n(.*?)```", file.read(), re.DOTALL))
+        known, told = {}, 0
+        for line in code.split("\n"):
+            found = re.match(r"(\S.*?) +# (.*)$", line)
+            if found is None:
+                exec(line, known)
+                continue
+            wanted, told = found.group(2), told + 1
+            self.assertTrue(wanted.startswith(repr(eval(found.group(1), known)).replace("'", '"')), line)
+        self.assertGreater(told, 15)
+
     def test_the_examples_of_the_document(self):
         level = Level(Room(["@a1"]), [Level(Room(["@A*"]))])
         rules = Rules()
