@@ -81,10 +81,9 @@ def _least_prices(reach, prices):
     queue = []
     for way in reach.behind:
         index, children = way
-        # Both children of a production can be the same number.
-        different = children[:1] if len(set(children)) == 1 else children
-        missing[way] = len(different)
-        for child in different:
+        # Where both children are the same number, it is missing twice, and is found twice at once.
+        missing[way] = len(children)
+        for child in children:
             uses[child].append(way)
         if len(children) == 0:
             heappush(queue, (prices[index], way))

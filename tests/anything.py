@@ -4,8 +4,10 @@ from roomsthrough.errors import BadBag, MazeError, TooMany
 from roomsthrough.fulls import Full, full
 from roomsthrough.grammars import Grammar
 from roomsthrough.levels import Level
+from roomsthrough.playing import Play
 from roomsthrough.rooms import Room
 from roomsthrough.rules import Rules
+from roomsthrough.studio import Studio
 from roomsthrough.tables import Table, none, same
 
 
@@ -31,6 +33,8 @@ def anything():
         Full, full(Level(Room(["@"])), Rules()), [full(Level(Room(["@"])), Rules(2))], {(0, 0): [()]},
         Level, Level(Room(["@"])), Level(Room(["@1"]), [Level(Room(["@*"]))]), Table, none(Rules()), same(Rules(2)),
         [none(Rules())], [Level(Room(["@"]))], [Room(["@"])], MazeError, BadBag(0), TooMany(),
+        Play(Level(Room(["@"])), Rules()), Studio, Studio(Grammar([("s", Room(["@"]), ())], "s"), Rules()),
+        [("s", full(Level(Room(["@"])), Rules()), 1)], [(0, 0, ())], ("won",), ("out", (0, 0)), "start s\ns @", "@1\n@",
     ]
 
 

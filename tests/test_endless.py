@@ -92,6 +92,21 @@ class ByHandTest(unittest.TestCase):
         self.assertEqual(costs(row_of(room, end, 9), RULES).get(((0, 1), "star")),
                          least_in_row(room, end, RULES, (0, 1), "star", 9))
 
+    def test_a_ring_of_three(self):
+        """Two ways of which there is none back: on one of them a key is taken, on the other one two are needed."""
+        room, end = Room([">.a>1", "@###^", ">AA>."]), Level(Room(["@A*"]))
+        found, ahead = tables_until_back(room, end, TWO)
+        self.assertEqual((1, 3), (ahead, len(found) - ahead))
+        self.assertEqual((1, 3), row_ring(room, end, TWO))
+        self.assertEqual(24, len(possible(found, TWO)))
+        for number in (0, 1, 2, 3, 4, 5, 6, 7, 8, 58, 59, 10 ** 17, 10 ** 17 + 1, 10 ** 17 + 2):
+            wanted = found[number] if number < 4 else found[1 + (number - 1) % 3]
+            self.assertTrue(wanted == row_table(room, end, TWO, number))
+            for many in range(3):
+                wins = (many + number) % 3 != 0
+                self.assertEqual(wins, row_table(room, end, TWO, number).lets((many, 1), "star"))
+                self.assertEqual(wins, least_in_row(room, end, TWO, (many, 1), "star", number) is not None)
+
     def test_rooms_that_cannot_be_come_through(self):
         end = Level(LEAF)
         shut = Room(["@#1"])

@@ -223,6 +223,23 @@ class FormTest(unittest.TestCase):
                 if isinstance(node, ast.Name) and isinstance(node.ctx, ast.Store):
                     self.assertNotIn(node.id, above, name)
 
+    def test_no_comprehension_within_another_one_assigns_a_name_of_its_function(self):
+        kinds = (ast.ListComp, ast.DictComp)
+        for place, function in nodes(ast.FunctionDef):
+            comprehensions = [node for node in ast.walk(function) if isinstance(node, kinds)]
+            targets = {node: [part.target for part in node.generators] for node in comprehensions}
+            own = {node: {part.id for target in row for part in ast.walk(target) if isinstance(part, ast.Name)}
+                   for node, row in targets.items()}
+            inside = {id(part) for row in targets.values() for target in row for part in ast.walk(target)}
+            names = {part.arg for part in ast.walk(function.args) if isinstance(part, ast.arg)}
+            for node in ast.walk(function):
+                if isinstance(node, ast.Name) and isinstance(node.ctx, ast.Store) and id(node) not in inside:
+                    names.add(node.id)
+            for outer in comprehensions:
+                for node in ast.walk(outer):
+                    if node is not outer and isinstance(node, kinds):
+                        self.assertEqual(set(), own[node] & (names | own[outer]), place)
+
     def test_methods(self):
         own = {node.name for _, node in nodes(ast.FunctionDef)}
         for place, node in nodes(ast.Call):

@@ -127,7 +127,7 @@ class LevelTest(unittest.TestCase):
             if not isinstance(thing, str):
                 wanted_error(self, BadText, "at", -1, read_level, thing)
                 wanted_error(self, BadText, "at", -1, read_grammar, thing)
-            elif thing == "@" or thing == "@.":
+            elif thing in ("@", "@.", "@1\n@"):
                 self.assertEqual(thing, write_level(read_level(thing)))
             else:
                 wanted_error(self, BadText, "at", 1, read_level, thing)
