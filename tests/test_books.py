@@ -130,7 +130,7 @@ class BeyondTest(unittest.TestCase):
     def test_random_books_that_let_more(self):
         chance = random.Random(301)
         compared = 0
-        for number in range(80):
+        for number in range(50):
             grammar, rules, _, _ = drawn(chance, number)
             more = [book for book in ALL_RULES if (book.cap, book.strong, book.pull) != (rules.cap, rules.strong, rules.pull)]
             more = [book for book in more if book.cap >= rules.cap and book.strong >= rules.strong]
@@ -142,7 +142,7 @@ class BeyondTest(unittest.TestCase):
                     except TooMany:
                         continue
                     compared += 1
-        self.assertGreater(compared, 150)
+        self.assertGreater(compared, 100)
 
     def test_one_book_twice(self):
         chance = random.Random(302)

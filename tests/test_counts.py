@@ -114,7 +114,7 @@ class CountWithTest(unittest.TestCase):
     def test_against_the_levels_of_small_derivations(self):
         chance = random.Random(344)
         seen = {"some": 0, "none": 0, "all": 0}
-        for number in range(90):
+        for number in range(70):
             grammar, rules = drawn(chance, number), ALL_RULES[number % (4 if number % 3 else 8)]
             wish = chance.choice([SOLVED, ("back", NOTHING, (1, 0)), ("safe", NOTHING), random_wish(chance, rules, 2)])
             for rooms in range(1, 6):
@@ -130,7 +130,7 @@ class CountWithTest(unittest.TestCase):
                 for at, made in enumerate(row):
                     self.assertEqual(made, derivation_at(grammar, rules, wish, rooms, at))
                 wanted_error(self, BadNumber, "value", len(row), derivation_at, grammar, rules, wish, rooms, len(row))
-        self.assertGreater(min(seen.values()), 25, seen)
+        self.assertGreater(min(seen.values()), 18, seen)
 
     def test_which_of_two_keys_is_taken_last(self):
         """Each room but the last one tells one of two colours, and only the first room counts: half of all levels."""

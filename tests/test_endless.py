@@ -139,7 +139,7 @@ class AgainstLevelsTest(unittest.TestCase):
     def test_few_rooms(self):
         chance = random.Random(351)
         compared = 0
-        for number in range(90):
+        for number in range(56):
             room, end, rules = drawn(chance, number)
             found, ahead = tables_until_back(room, end, rules)
             self.assertEqual((ahead, len(found) - ahead), row_ring(room, end, rules))
@@ -155,7 +155,7 @@ class AgainstLevelsTest(unittest.TestCase):
                     else:
                         self.assertEqual(told.get((bag, outcome)), least_in_row(room, end, rules, bag, outcome, many))
                         compared += 1
-        self.assertGreater(compared, 300)
+        self.assertGreater(compared, 200)
 
     def test_all_tuples_of_fifty_and_more_rooms(self):
         chance = random.Random(352)
@@ -170,7 +170,7 @@ class AgainstLevelsTest(unittest.TestCase):
     def test_great_numbers(self):
         chance = random.Random(353)
         grown = 0
-        for number in range(24):
+        for number in range(16):
             room, end, rules = drawn(chance, number)
             found, ahead = tables_until_back(room, end, rules)
             ring = len(found) - ahead
@@ -190,7 +190,7 @@ class AgainstLevelsTest(unittest.TestCase):
                     wanted = later(row_told, many)
                     self.assertEqual(wanted, least_in_row(room, end, rules, bag, outcome, many))
                     grown += wanted is not None and wanted > 10 ** 16
-        self.assertGreater(grown, 10)
+        self.assertGreater(grown, 6)
 
     def test_rings_of_more_than_one(self):
         chance = random.Random(354)
@@ -233,7 +233,7 @@ class TooManyTest(unittest.TestCase):
         """Counted over all rows: each of them can have fewer."""
         chance = random.Random(356)
         seen = {True: 0, False: 0, "together": 0, "edge": 0}
-        for number in range(120):
+        for number in range(80):
             room, end = random_room(chance, 1, 8, "...aAbBaA*"), random_level(chance, 1, 6, "..aAbB*")
             found, _ = tables_until_back(room, end, TWO)
             many = len(possible(found, TWO))

@@ -112,7 +112,7 @@ class CheapestTest(unittest.TestCase):
 
     def test_against_least_prices_found_again_and_again(self):
         chance = random.Random(332)
-        for number in range(50):
+        for number in range(26):
             grammar, rules, wish, prices, found = drawn(chance, number, 7)
             least = self.least_prices(grammar, rules, prices, found)
             good = [least[(grammar.start, at)] for at, one in enumerate(found[grammar.start]) if meets(one, wish)]
@@ -199,7 +199,7 @@ class PaperTest(unittest.TestCase):
     def test_papers_changed_at_one_place(self):
         chance = random.Random(334)
         seen = {True: 0, False: 0}
-        for number in range(80):
+        for number in range(60):
             grammar, rules, wish, prices, _ = drawn(chance, number, 9)
             paper = price_paper(grammar, rules, wish, prices)
             for _ in range(8):
@@ -208,7 +208,7 @@ class PaperTest(unittest.TestCase):
                 wanted = shown_by(grammar, rules, wish, prices, least, changed)
                 self.assertIs(wanted, is_price_paper(grammar, rules, wish, prices, least, changed), changed)
                 seen[wanted] += 1
-        self.assertGreater(min(seen.values()), 100, seen)
+        self.assertGreater(min(seen.values()), 60, seen)
 
     def changed(self, chance, grammar, rules, paper):
         at, kind = chance.randrange(len(paper)), chance.randrange(9)

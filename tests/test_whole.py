@@ -249,7 +249,7 @@ class OtherSideTest(unittest.TestCase):
 
     def test_colours_exchanged(self):
         chance = random.Random(393)
-        for number in range(40):
+        for number in range(24):
             grammar, rules, wish, prices, found = prices_drawn(chance, number, 8)
             other, turned = exchanged_grammar(grammar), exchanged_wish(wish)
             self.assertTrue(is_wish(rules, turned))
@@ -314,7 +314,7 @@ class TwinTest(unittest.TestCase):
             rules = ALL_RULES[3 * number % 8]
             pairs = self.found_twins(rules)
             self.assertGreater(len(pairs), 10)
-            for one, two in chance.sample(pairs, 10):
+            for one, two in chance.sample(pairs, 5):
                 self.assertIs(True, twins(one, two, rules))
                 rows = [("s", random_room(chance, 1, 6, "..aA*b"), ("t",)), ("s", random_room(chance, 1, 6, "..aA*v"), ("s",)),
                         ("t", random_room(chance, 1, 5, "..aA"), ("t",)), ("s", LEAF, ())]
