@@ -149,7 +149,7 @@ class KinTest(unittest.TestCase):
                     seen[wanted] = seen.get(wanted, 0) + 1
                     if context is not None:
                         self.check(grammar, rules, wish, name, row[one], row[two], context)
-        self.assertGreater(min(seen[0], seen[1], seen[2]), 20, seen)
+        self.assertGreater(min(seen[0], seen[1], seen[2]), 9, seen)
         self.assertGreater(len(seen), 3, seen)
 
     def check(self, grammar, rules, wish, name, one, other, context):
@@ -326,7 +326,7 @@ class JudgeTest(unittest.TestCase):
                     seen[wanted] += 1
                     self.assertIs(wanted, is_parting(grammar, rules, wish, name, one, two, context))
                     self.assertIs(wanted, is_parting(grammar, rules, wish, name, two, one, tuple(context)))
-        self.assertGreater(min(seen.values()), 10, seen)
+        self.assertGreater(min(seen.values()), 5, seen)
 
     def drawn_context(self, chance, grammar, small, name):
         """A context drawn by chance, from a name to the start; None if none was found soon."""
