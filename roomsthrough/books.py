@@ -1,8 +1,8 @@
 """Two books of rules compared: whether one lets what the other one lets, and papers that show it."""
 
-from roomsthrough.closing import is_closed_by
+from roomsthrough.closing import is_closed_by, is_dict_of_lists
 from roomsthrough.errors import NoPaper
-from roomsthrough.fulls import Full, full_with
+from roomsthrough.fulls import full_with, is_full_of
 from roomsthrough.grammars import need_grammar
 from roomsthrough.reach import Reach
 from roomsthrough.rules import need_rules
@@ -66,20 +66,12 @@ def _first_lost(reach, rules, other, wish):
 
 def _is_dict_of_pairs(grammar, rules, other, thing):
     """Tell whether a thing is a dict from just the names to lists of tuples of a full of each of the rules."""
-    names = grammar.names()
-    if not isinstance(thing, dict) or len(thing) != len(names):
+    if not is_dict_of_lists(grammar, thing):
         return False
-    for name in names:
-        if not isinstance(thing.get(name), list):
-            return False
-        for pair in thing[name]:
+    for row in thing.values():
+        for pair in row:
             if not isinstance(pair, tuple) or len(pair) != 2:
                 return False
-            if not _is_full_of(rules, pair[0]) or not _is_full_of(other, pair[1]):
+            if not is_full_of(rules, pair[0]) or not is_full_of(other, pair[1]):
                 return False
     return True
-
-
-def _is_full_of(rules, thing):
-    """Tell whether a thing is a full with these rules."""
-    return isinstance(thing, Full) and thing.base.rules == rules

@@ -17,6 +17,17 @@ def is_closed_by(grammar, shaper, shapes):
     return True
 
 
+def is_dict_of_lists(grammar, thing):
+    """Tell whether a thing is a dict from just the names of the grammar to lists."""
+    names = grammar.names()
+    if not isinstance(thing, dict) or len(thing) != len(names):
+        return False
+    for name in names:
+        if not isinstance(thing.get(name), list):
+            return False
+    return True
+
+
 def rows_behind(names, shapes):
     """All tuples of shapes of some names, in their order."""
     if len(names) == 0:

@@ -7,9 +7,8 @@ from roomsthrough.kinship import Kinship
 from roomsthrough.levels import MOST_ROOMS
 from roomsthrough.plain import is_whole
 from roomsthrough.reach import Reach
-from roomsthrough.rules import need_rules
 from roomsthrough.tours import Shaper
-from roomsthrough.wishes import need_wish
+from roomsthrough.wishes import need_question
 
 
 def count(grammar, rooms):
@@ -22,14 +21,16 @@ def count(grammar, rooms):
 
 def count_with(grammar, rules, wish, rooms):
     """The number of those whose levels fulfil the wish."""
-    _need_question(grammar, rules, wish, rooms)
+    need_question(grammar, rules, wish)
+    _need_rooms(rooms)
     counting, labels = _counting(grammar, rules, wish, rooms)
     return counting.total(labels, rooms)
 
 
 def derivation_at(grammar, rules, wish, rooms, number):
     """The one with a number, from 0, among those with just so many rooms whose levels fulfil the wish."""
-    _need_question(grammar, rules, wish, rooms)
+    need_question(grammar, rules, wish)
+    _need_rooms(rooms)
     if not is_whole(number) or number < 0:
         raise BadNumber(number)
     counting, labels = _counting(grammar, rules, wish, rooms)
@@ -37,14 +38,6 @@ def derivation_at(grammar, rules, wish, rooms, number):
         raise BadNumber(number)
     wanted = {label: [0] * rooms + [1] for label in labels}
     return counting.pick(wanted, number)[0]
-
-
-def _need_question(grammar, rules, wish, rooms):
-    """Raise the error of the first of these arguments that is wrong."""
-    need_grammar(grammar)
-    need_rules(rules)
-    need_wish(rules, wish)
-    _need_rooms(rooms)
 
 
 def _need_rooms(rooms):

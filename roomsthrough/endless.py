@@ -15,7 +15,8 @@ MOST_POSSIBLE = 24
 
 def least_in_row(room, end, rules, bag, outcome, number):
     """The least number of letters of a play of a row with an outcome, None if there is none."""
-    _need_row(room, end, rules)
+    need_row(room, end)
+    need_rules(rules)
     need_bag(rules, bag)
     need_outcome(rules, outcome)
     _need_number(number)
@@ -37,7 +38,8 @@ def least_in_row(room, end, rules, bag, outcome, number):
 
 def row_table(room, end, rules, number):
     """The table of a row."""
-    _need_row(room, end, rules)
+    need_row(room, end)
+    need_rules(rules)
     _need_number(number)
     tables, ahead = _tables(room, end, rules)
     if number < ahead:
@@ -47,15 +49,10 @@ def row_table(room, end, rules, number):
 
 def row_ring(room, end, rules):
     """The tuple of the least number of rooms ahead of the ring of tables, and of its least length."""
-    _need_row(room, end, rules)
-    tables, ahead = _tables(room, end, rules)
-    return (ahead, len(tables) - ahead)
-
-
-def _need_row(room, end, rules):
-    """Raise the error of the first of these arguments that is wrong."""
     need_row(room, end)
     need_rules(rules)
+    tables, ahead = _tables(room, end, rules)
+    return (ahead, len(tables) - ahead)
 
 
 def _need_number(number):

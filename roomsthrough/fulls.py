@@ -94,9 +94,14 @@ def is_row_of_fulls(room, rules, thing):
     if not is_row(thing) or len(thing) != room.mouths:
         return False
     for one in thing:
-        if not isinstance(one, Full) or one.base.rules != rules:
+        if not is_full_of(rules, one):
             return False
     return True
+
+
+def is_full_of(rules, thing):
+    """Tell whether a thing is a full with these rules."""
+    return isinstance(thing, Full) and thing.base.rules == rules
 
 
 def _need_parts(room, rules, fulls):

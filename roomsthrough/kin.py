@@ -2,19 +2,19 @@
 
 from roomsthrough.errors import BadFull
 from roomsthrough.fulls import Full, full_with
-from roomsthrough.grammars import is_made, need_grammar, need_name
+from roomsthrough.grammars import is_made, need_name
 from roomsthrough.kinship import Kinship
 from roomsthrough.plain import is_row, is_whole
 from roomsthrough.reach import Reach
 from roomsthrough.reaching import need_reached
-from roomsthrough.rules import need_rules
 from roomsthrough.tours import Shaper
-from roomsthrough.wishes import need_wish
+from roomsthrough.wishes import need_question
 
 
 def kin(grammar, rules, wish, name):
     """The list of the classes of kin fulls of a name, those with earlier fulls first."""
-    _need_question(grammar, rules, wish, name)
+    need_question(grammar, rules, wish)
+    need_name(grammar, name)
     reach = Reach(grammar, Shaper(rules))
     labels = Kinship(reach, rules, wish).labels
     classes = {}
@@ -47,17 +47,10 @@ def is_parting(grammar, rules, wish, name, one, other, thing):
     return wanted == grammar.start and (first in kinship.good) != (second in kinship.good)
 
 
-def _need_question(grammar, rules, wish, name):
-    """Raise the error of the first of these arguments that is wrong."""
-    need_grammar(grammar)
-    need_rules(rules)
-    need_wish(rules, wish)
-    need_name(grammar, name)
-
-
 def _kinship_with(grammar, rules, wish, name, one, other):
     """The kinship, and the numbers of the two fulls of a name; or the error of the first argument that is wrong."""
-    _need_question(grammar, rules, wish, name)
+    need_question(grammar, rules, wish)
+    need_name(grammar, name)
     for thing in (one, other):
         if not isinstance(thing, Full):
             raise BadFull(thing)

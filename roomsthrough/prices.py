@@ -4,20 +4,18 @@ from heapq import heappop, heappush
 
 from roomsthrough.closing import rows_behind
 from roomsthrough.errors import BadCount, BadPrices, TooMany
-from roomsthrough.fulls import Full, full_with
-from roomsthrough.grammars import need_grammar
+from roomsthrough.fulls import full_with, is_full_of
 from roomsthrough.plain import is_row, is_whole
 from roomsthrough.reach import Reach
-from roomsthrough.rules import need_rules
 from roomsthrough.tours import Shaper
-from roomsthrough.wishes import is_met, meets, need_wish
+from roomsthrough.wishes import is_met, meets, need_question
 
 MOST_PRICE = 1000
 
 
 def cheapest(grammar, rules, wish, prices):
     """A tuple (price, derivation) of a cheapest level of the start that fulfils the wish, None if none does."""
-    _need_question(grammar, rules, wish, prices)
+    _need_priced(grammar, rules, wish, prices)
     reach = Reach(grammar, Shaper(rules))
     least, trees = _least_prices(reach, prices)
     good = [k for k in reach.of_name[grammar.start] if is_met(rules, reach.shapes[k], wish)]
@@ -29,7 +27,7 @@ def cheapest(grammar, rules, wish, prices):
 
 def price_paper(grammar, rules, wish, prices):
     """The list of the tuples (name, full, least price) of all reached fulls."""
-    _need_question(grammar, rules, wish, prices)
+    _need_priced(grammar, rules, wish, prices)
     reach = Reach(grammar, Shaper(rules))
     least, _ = _least_prices(reach, prices)
     paper = []
@@ -43,7 +41,7 @@ def is_price_paper(grammar, rules, wish, prices, least, thing):
 
     With None for the least price: that there is no such level.
     """
-    _need_question(grammar, rules, wish, prices)
+    _need_priced(grammar, rules, wish, prices)
     if least is not None and not is_whole(least):
         raise BadCount(least)
     if not isinstance(thing, list):
@@ -62,11 +60,9 @@ def is_price_paper(grammar, rules, wish, prices, least, thing):
         return False
 
 
-def _need_question(grammar, rules, wish, prices):
+def _need_priced(grammar, rules, wish, prices):
     """Raise the error of the first of these arguments that is wrong."""
-    need_grammar(grammar)
-    need_rules(rules)
-    need_wish(rules, wish)
+    need_question(grammar, rules, wish)
     if not is_row(prices) or len(prices) != len(grammar.rows):
         raise BadPrices(-1)
     for at, price in enumerate(prices):
@@ -110,7 +106,7 @@ def _is_line(rules, numbers, thing):
     name, full, number = thing
     if not isinstance(name, str) or name not in numbers:
         return False
-    if not isinstance(full, Full) or full.base.rules != rules or full.shape in numbers[name]:
+    if not is_full_of(rules, full) or full.shape in numbers[name]:
         return False
     return number is None or is_whole(number) and number >= 0
 

@@ -1,31 +1,29 @@
 """Verdicts: whether each level that a grammar makes fulfils a wish, or some do, and papers that show it."""
 
-from roomsthrough.closing import is_closed_by
+from roomsthrough.closing import is_closed_by, is_dict_of_lists
 from roomsthrough.errors import NoPaper
-from roomsthrough.fulls import Full
-from roomsthrough.grammars import need_grammar
+from roomsthrough.fulls import is_full_of
 from roomsthrough.reach import Reach
 from roomsthrough.reaching import reached
-from roomsthrough.rules import need_rules
 from roomsthrough.tours import Shaper
-from roomsthrough.wishes import is_met, meets, need_wish
+from roomsthrough.wishes import is_met, meets, need_question
 
 
 def every(grammar, rules, wish):
     """None if each made level of the start fulfils the wish, otherwise the least derivation that does not."""
-    _need_question(grammar, rules, wish)
+    need_question(grammar, rules, wish)
     return _least_one(grammar, rules, wish, False)
 
 
 def some(grammar, rules, wish):
     """None if no made level of the start fulfils the wish, otherwise the least derivation that does."""
-    _need_question(grammar, rules, wish)
+    need_question(grammar, rules, wish)
     return _least_one(grammar, rules, wish, True)
 
 
 def verdict_paper(grammar, rules, wish):
     """The dict of the reached fulls, which shows that each made level of the start fulfils the wish."""
-    _need_question(grammar, rules, wish)
+    need_question(grammar, rules, wish)
     paper = reached(grammar, rules)
     for full in paper[grammar.start]:
         if not meets(full, wish):
@@ -35,7 +33,7 @@ def verdict_paper(grammar, rules, wish):
 
 def is_verdict_paper(grammar, rules, wish, thing):
     """Tell whether a thing is a dict of fulls which shows that each made level of the start fulfils the wish."""
-    _need_question(grammar, rules, wish)
+    need_question(grammar, rules, wish)
     if not _is_dict_of_fulls(grammar, rules, thing):
         return False
     for full in thing[grammar.start]:
@@ -43,13 +41,6 @@ def is_verdict_paper(grammar, rules, wish, thing):
             return False
     shapes = {name: {one.shape: True for one in thing[name]} for name in grammar.names()}
     return is_closed_by(grammar, Shaper(rules), shapes)
-
-
-def _need_question(grammar, rules, wish):
-    """Raise the error of the first of these arguments that is wrong."""
-    need_grammar(grammar)
-    need_rules(rules)
-    need_wish(rules, wish)
 
 
 def _least_one(grammar, rules, wish, wanted):
@@ -63,13 +54,10 @@ def _least_one(grammar, rules, wish, wanted):
 
 def _is_dict_of_fulls(grammar, rules, thing):
     """Tell whether a thing is a dict from just the names of the grammar to lists of fulls with these rules."""
-    names = grammar.names()
-    if not isinstance(thing, dict) or len(thing) != len(names):
+    if not is_dict_of_lists(grammar, thing):
         return False
-    for name in names:
-        if not isinstance(thing.get(name), list):
-            return False
-        for full in thing[name]:
-            if not isinstance(full, Full) or full.base.rules != rules:
+    for row in thing.values():
+        for full in row:
+            if not is_full_of(rules, full):
                 return False
     return True

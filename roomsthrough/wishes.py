@@ -3,6 +3,7 @@
 from roomsthrough.bags import STAR, is_bag
 from roomsthrough.errors import BadFull, BadWish
 from roomsthrough.fulls import Full, full_with
+from roomsthrough.grammars import need_grammar
 from roomsthrough.rules import need_rules
 
 DEEPEST = 6
@@ -20,6 +21,13 @@ def need_wish(rules, wish):
     """Raise BadWish(wish) for what is not a wish under the rules."""
     if not _is_wish(rules, wish, DEEPEST):
         raise BadWish(wish)
+
+
+def need_question(grammar, rules, wish):
+    """Raise the error of the first of these arguments that is wrong."""
+    need_grammar(grammar)
+    need_rules(rules)
+    need_wish(rules, wish)
 
 
 def meets(full, wish):
