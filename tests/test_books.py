@@ -415,6 +415,35 @@ class ErrorTest(unittest.TestCase):
             wanted_error(self, TooMany, None, None, function, MANY, WEAK, TWO, ANY)
             wanted_error(self, TooMany, None, None, function, MANY, TWO, WEAK, ANY)
 
+    def test_more_than_three_hundred_tuples_of_fewer_fulls(self):
+        """Under each of the books alone fewer than 300 fulls are reached; the judge walks papers of any size."""
+        grammar = Grammar(MANY.rows[:-1], "s")
+        for rules, other in ((TWO, WEAK), (WEAK, TWO)):
+            for book in (rules, other):
+                self.assertLess(sum(map(len, reached(grammar, book).values())), 300)
+            for function in (beyond, book_paper):
+                wanted_error(self, TooMany, None, None, function, grammar, rules, other, ANY)
+            paper = self.all_tuples(grammar, rules, other)
+            self.assertEqual(333, sum(map(len, paper.values())))
+            self.assertIs(True, is_book_paper(grammar, rules, other, ANY, paper))
+            paper["s"].pop(len(paper["s"]) // 2)
+            self.assertIs(False, is_book_paper(grammar, rules, other, ANY, paper))
+
+    def all_tuples(self, grammar, rules, other):
+        """All tuples that are reached, by going on from the new ones; no room of the grammar has two mouths."""
+        paper, seen, new = {name: [] for name in grammar.names()}, set(), [(None, ())]
+        while new:
+            inner, pairs = new.pop()
+            for name, room, names in grammar.rows:
+                if names == ((inner,) if pairs else ()):
+                    made = tuple(full_of(room, book, [pair[at] for pair in pairs]) for at, book in ((0, rules), (1, other)))
+                    key = (name, made[0].shape, made[1].shape)
+                    if key not in seen:
+                        seen.add(key)
+                        paper[name].append(made)
+                        new.append((name, (made,)))
+        return paper
+
     def test_just_three_hundred_tuples(self):
         paper = book_paper(FULLEST, TWO, TWO, ANY)
         self.assertEqual(300, sum(map(len, paper.values())))
